@@ -1,0 +1,1 @@
+"""Overrounds: loops whose rounds overlap."""

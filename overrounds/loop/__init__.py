@@ -1,0 +1,1 @@
+"""Operations and the loops that they make."""

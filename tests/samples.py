@@ -1,0 +1,70 @@
+"""What several tests use: loops, values of all kinds, and slow ways to know the answers."""
+
+from itertools import permutations, product
+from random import Random
+
+from overrounds.loop.loops import Loop, Operation
+
+SUM = Loop(Operation("item", uses=(("mem", 0),)),
+           Operation("sum", ticks=2, reads=(("sum", 1), ("item", 0)), uses=(("add", 0), ("add", 1))))
+MEET = Loop(Operation("u", reads=(("v", 1),), uses=(("p", 0),)), Operation("v", reads=(("u", 0),), uses=(("p", 1),)))
+
+
+def nested(depth, row):
+    """A value so many tuples or lists deep."""
+    value = "a"
+    for _ in range(depth):
+        value = row([value])
+    return value
+
+
+def all_kinds():
+    """New values of all kinds that can be passed; none is a name or an integer from 0 to 64."""
+    return [
+        None, True, False, "", "A", "aB", "a1", "1", "a b", "a\n", "\n", " a", "-", "abcdefghi", "a" * 300,
+        -1, 65, 10 ** 12, -10 ** 12, 10 ** 39, -10 ** 39,
+        (), [], {}, ("a",), ["a"], {"a": "a"}, {"a": 1}, {1: "a"}, {("a", 1): None}, ("a", 1), [("a", 1)], (("a", 1),),
+        ((("a", 1),),), (None,), (True,), [[]], ((),), {None: [{}]}, nested(30, tuple), nested(30, list),
+        Operation("a"), SUM, MEET, (SUM,), [Operation("a")], (Operation("a"), "a"),
+    ]
+
+
+def slow_rings(loop):
+    """All rings of a loop, by trying all rows of names."""
+    found = []
+    for many in range(1, len(loop) + 1):
+        for names in permutations(loop.names, many):
+            if names[0] != min(names):
+                continue
+            steps = zip(names, names[1:] + names[:1])
+            choices = [[k for k, arc in enumerate(loop.arcs) if arc[:2] == step] for step in steps]
+            found.extend(product(*choices))
+    return sorted(found)
+
+
+def slow_value(loop, meaning, name, turn):
+    """The value that an operation has in a round, by what the operation reads."""
+    if turn < 0:
+        return meaning(name, turn, ())
+    read = [slow_value(loop, meaning, source, turn - back) for source, back in loop[name].reads]
+    return meaning(name, turn, tuple(read))
+
+
+def has_round_order(names, arcs):
+    """Whether the names have an order in which each arc of distance 0 leads on."""
+    pairs = [arc[:2] for arc in arcs if arc[3] == 0]
+    return any(all(row.index(a) < row.index(b) for a, b in pairs) for row in permutations(names))
+
+
+def some_parts(seed):
+    """Operations and orders of up to five names, perhaps with a ring of distance 0."""
+    draw = Random(seed)
+    names = draw.sample("abcdefgh", draw.randint(1, 5))
+    operations = []
+    for name in names:
+        reads = tuple((draw.choice(names), draw.choice((0, 0, 1, 2, 3))) for _ in range(draw.randint(0, 3)))
+        uses = tuple(sorted({(draw.choice("pq"), draw.randint(0, 3)) for _ in range(draw.randint(0, 4))}))
+        operations.append(Operation(name, ticks=draw.randint(1, 4), reads=reads, uses=uses))
+    orders = {(draw.choice(names), draw.choice(names), draw.randint(0, 4), draw.choice((0, 1, 2, 3)))
+              for _ in range(draw.choice((0, 0, 1, 2, 4)))}
+    return operations, tuple(sorted(orders))

@@ -1,13 +1,20 @@
 """What several tests use: loops, values of all kinds, and slow ways to know the answers."""
 
+from inspect import isgenerator
 from itertools import permutations, product
 from random import Random
 
+from overrounds.errors import InvalidLoop, InvalidNumber, RoundError, TooMany, UnknownName
 from overrounds.loop.loops import Loop, Operation
+from overrounds.plan.machines import Machine
 
 SUM = Loop(Operation("item", uses=(("mem", 0),)),
            Operation("sum", ticks=2, reads=(("sum", 1), ("item", 0)), uses=(("add", 0), ("add", 1))))
 MEET = Loop(Operation("u", reads=(("v", 1),), uses=(("p", 0),)), Operation("v", reads=(("u", 0),), uses=(("p", 1),)))
+ROUND = Loop(Operation("a", ticks=2, reads=(("c", 2),)), Operation("b", reads=(("a", 0),)),
+             Operation("c", ticks=2, reads=(("b", 0),)))
+P = Machine(p=1)
+BOTH = Machine(add=1, mem=1)
 
 
 def nested(depth, row):
@@ -25,7 +32,7 @@ def all_kinds():
         -1, 65, 10 ** 12, -10 ** 12, 10 ** 39, -10 ** 39,
         (), [], {}, ("a",), ["a"], {"a": "a"}, {"a": 1}, {1: "a"}, {("a", 1): None}, ("a", 1), [("a", 1)], (("a", 1),),
         ((("a", 1),),), (None,), (True,), [[]], ((),), {None: [{}]}, nested(30, tuple), nested(30, list),
-        Operation("a"), SUM, MEET, (SUM,), [Operation("a")], (Operation("a"), "a"),
+        Operation("a"), SUM, MEET, (SUM,), [Operation("a")], (Operation("a"), "a"), P, [P],
     ]
 
 
@@ -68,3 +75,48 @@ def some_parts(seed):
     orders = {(draw.choice(names), draw.choice(names), draw.randint(0, 4), draw.choice((0, 1, 2, 3)))
               for _ in range(draw.choice((0, 0, 1, 2, 4)))}
     return operations, tuple(sorted(orders))
+
+
+def some_loops(many, first=0):
+    """The loops among so many of `some_parts`."""
+    loops = []
+    for seed in range(first, first + many):
+        operations, orders = some_parts(seed)
+        try:
+            loops.append(Loop(*operations, orders=orders))
+        except InvalidLoop:
+            continue
+    return loops
+
+
+def error_of(call, *told, **keywords):
+    """The class of the error that a call raises, and the error; None and what it returns if it raises none."""
+    try:
+        value = call(*told, **keywords)
+        if isgenerator(value):
+            list(value)
+    except (RoundError, UnknownName, InvalidNumber, TooMany) as error:
+        return type(error), error
+    return None, value
+
+
+def slow_fits(loop, interval, starts):
+    """Whether starts fit a loop, arc by arc."""
+    return all(starts[b] - starts[a] >= delay - interval * back for a, b, delay, back in loop.arcs)
+
+
+def slow_crowded(loop, machine, interval, starts):
+    """The pairs (unit, slot) with a tick in which a unit is asked for too often, counted tick by tick."""
+    rounds = (max(starts.values()) - min(starts.values()) + 4) // interval + 3
+    asked = {}
+    for name in loop.names:
+        for turn in range(rounds):
+            for unit, offset in loop[name].uses:
+                place = (unit, starts[name] + offset + interval * turn)
+                asked[place] = asked.get(place, 0) + 1
+    return sorted({(unit, tick % interval) for (unit, tick), many in asked.items() if many > machine[unit]})
+
+
+def all_starts(loop, ticks):
+    """All starts of a loop at some ticks."""
+    return [dict(zip(loop.names, row)) for row in product(ticks, repeat=len(loop))]

@@ -264,3 +264,9 @@ def wide_loop(operations, orders):
     loop = Loop(*operations)
     loop._take_orders(orders)
     return loop
+
+
+def check_loop(value):
+    """Raise InvalidLoop unless the value is a loop."""
+    if not isinstance(value, Loop):
+        raise InvalidLoop(value)

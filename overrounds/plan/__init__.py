@@ -1,0 +1,1 @@
+"""Machines and plans."""

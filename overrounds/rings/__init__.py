@@ -1,0 +1,1 @@
+"""Rings of a loop, and the intervals that they allow."""

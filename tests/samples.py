@@ -120,3 +120,28 @@ def slow_crowded(loop, machine, interval, starts):
 def all_starts(loop, ticks):
     """All starts of a loop at some ticks."""
     return [dict(zip(loop.names, row)) for row in product(ticks, repeat=len(loop))]
+
+
+def slow_need(loop, interval, slots, circuit):
+    """What a circuit needs, by walking along it from a told slot and waiting for each one."""
+    rows = [loop.arcs[index] for index in circuit]
+    for at, row in enumerate(rows):
+        if row[0] in slots:
+            rows = rows[at:] + rows[:at]
+            break
+    tick = begin = slots.get(rows[0][0], 0)
+    for _, target, delay, distance in rows:
+        tick += delay - interval * distance
+        while target in slots and tick % interval != slots[target]:
+            tick += 1
+    return tick - begin
+
+
+def machine_for(loop, most=1):
+    """A machine that has each unit of a loop so often."""
+    return Machine.of({unit: most for unit in loop.units})
+
+
+def told_slots(names, interval):
+    """All told slots of just these names."""
+    return [dict(zip(names, row)) for row in product(range(interval), repeat=len(names))]

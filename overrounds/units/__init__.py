@@ -1,0 +1,1 @@
+"""Intervals with units."""

@@ -145,3 +145,31 @@ def machine_for(loop, most=1):
 def told_slots(names, interval):
     """All told slots of just these names."""
     return [dict(zip(names, row)) for row in product(range(interval), repeat=len(names))]
+
+
+def slow_alive(rows, interval, tick, names=None):
+    """The values of spans that are alive in a tick, by trying turns, ascending."""
+    found = []
+    for name in sorted(rows if names is None else set(names)):
+        begin, end = rows[name]
+        middle = (tick - begin) // interval
+        found += [(name, turn) for turn in range(middle - 12, middle + 12)
+                  if begin + interval * turn <= tick < end + interval * turn]
+    return found
+
+
+def slow_across(rows, interval, moment, names=None):
+    """The values that are alive in the ticks on both sides of a moment."""
+    behind = slow_alive(rows, interval, moment, names)
+    return [value for value in slow_alive(rows, interval, moment - 1, names) if value in behind]
+
+
+def some_rows(seed, most=8, letters="abcdefgh"):
+    """An interval and spans of some names."""
+    draw = Random(seed)
+    interval = draw.choice((1, 2, 3, 4, 5, 7))
+    rows = {}
+    for name in draw.sample(letters, draw.randint(1, most)):
+        begin = draw.randint(-9, 9)
+        rows[name] = (begin, begin + draw.randint(1, draw.choice((interval, interval, 2 * interval, 8 * interval))))
+    return interval, rows

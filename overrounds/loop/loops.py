@@ -85,9 +85,7 @@ class Operation:
                 and self._reads == other._reads and self._uses == other._uses)
 
     def __str__(self):
-        reads = _told("reads", self._reads)
-        uses = _told("uses", self._uses)
-        return f"{self._name} {self._ticks}{reads}{uses}"
+        return "".join([f"{self._name} {self._ticks}", _told("reads", self._reads), _told("uses", self._uses)])
 
 
 def _table_of(operations):

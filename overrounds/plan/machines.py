@@ -16,6 +16,11 @@ def _checked(units):
     return {name: units[name] for name in sorted(units)}
 
 
+def _told(units):
+    """The units as a part of the text of a machine."""
+    return ", ".join([f"{name} {many}" for name, many in units.items()])
+
+
 class Machine:
     """A machine of up to three units, each one to three times. It never changes."""
 
@@ -55,8 +60,7 @@ class Machine:
     def __str__(self):
         if not self._units:
             return "machine without units"
-        told = ", ".join([f"{name} {many}" for name, many in self._units.items()])
-        return f"machine with {told}"
+        return f"machine with {_told(self._units)}"
 
     def __add__(self, other):
         if not isinstance(other, Machine):

@@ -1,0 +1,1 @@
+"""Files of registers, and the values that they hold."""

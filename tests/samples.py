@@ -15,6 +15,19 @@ ROUND = Loop(Operation("a", ticks=2, reads=(("c", 2),)), Operation("b", reads=((
              Operation("c", ticks=2, reads=(("b", 0),)))
 P = Machine(p=1)
 BOTH = Machine(add=1, mem=1)
+FIVE = Loop(*[Operation(name, uses=(("p", 0),)) for name in "abcde"])
+FOUR = Loop(*[Operation(name, uses=(("p", 0),)) for name in "abcd"], Operation("e"))
+# MEET has no plan on P with the interval 2.
+TREE = ("split", "u", (("split", "v", (("circuit", (0, 1)), ("unit", "p", 0))),))
+# Starts of SUM, what is none, and what is no interval.
+GOOD = {"item": 0, "sum": 1}
+NO_STARTS = [{}, {"item": 0}, {"sum": 0}, {**GOOD, "x": 0}, {"item": 0, "x": 0}, {"item": -1, "sum": 1},
+             {"item": 0, "sum": 10 ** 6 + 1}, {"item": 0, "sum": True}, {"item": False, "sum": 1},
+             {"item": 0, "sum": None}, {"item": 0, "sum": "1"}, {"item": (0,), "sum": 1}, {"item": 0, "sum": 10 ** 39},
+             {"item": [0], "sum": 1}, {"item": 0, 1: 1}, {"item": 0, None: 1}, {"item": 0, ("sum",): 1},
+             (("item", 0), ("sum", 1)), [0, 1], (0, 1)]
+NO_INTERVALS = (0, 33, -1, True, False, None, "2", (2,), [2], {2: 2}, 10 ** 12, 10 ** 39, SUM)
+
 
 
 def nested(depth, row):

@@ -187,7 +187,8 @@ class Files(unittest.TestCase):
                         self.assertIn(name, DOUBLE)
                     if name == "__eq__":
                         self.assertEqual(len(node.body), 1)
-                        self.assertTrue(ast.unparse(node.body[0]).startswith(f"return isinstance(other, {cls.name}) and "))
+                        first = f"return isinstance(other, {cls.name}) and "
+                        self.assertTrue(ast.unparse(node.body[0]).startswith(first))
                     if name in ("__len__", "__str__", "__iter__"):
                         self.assertFalse([one for one in ast.walk(node) if isinstance(one, ast.Assign)], path)
                     if (name.startswith("__") and name != "__init__") or "property" in kinds:
@@ -199,7 +200,8 @@ class Files(unittest.TestCase):
             if isinstance(node, ast.Call) and isinstance(node.func, ast.Attribute):
                 self.assertNotIn(node.func.attr, CHANGING, (path, method.name))
             if isinstance(node, ast.Attribute) and isinstance(node.ctx, ast.Store):
-                self.assertIn((method.name, ast.unparse(node)), [("__add__", "machine._units"), ("pieces", "self._pieces")])
+                self.assertIn((method.name, ast.unparse(node)),
+                              [("__add__", "machine._units"), ("pieces", "self._pieces")])
 
 
 if __name__ == "__main__":

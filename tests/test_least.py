@@ -11,10 +11,10 @@ from overrounds.rings.starts import free_interval
 from overrounds.units.least import bounds, intervals, is_least_paper, least_interval, least_paper
 from overrounds.units.trees import has_plan
 
-from samples import BOTH, MEET, P, ROUND, SUM, all_kinds, error_of, machine_for
-from test_trees import FEW, FIVE, FOUR, TREE
+from samples import (BOTH, FIVE, FOUR, MEET, P, ROUND, SUM, TREE, all_kinds, error_of, machine_for, some_loops)
 
 TWICE = Loop(Operation("a", uses=(("p", 0), ("p", 3))))
+FEW = [loop for loop in some_loops(500) if len(loop) <= 4]
 FULL = tuple(("p", offset) for offset in range(4))
 
 
@@ -24,7 +24,8 @@ class Least(unittest.TestCase):
         self.assertEqual(intervals(TWICE, P, most=6), (2, 4, 5, 6))
 
     def test_bounds(self):
-        self.assertEqual([bounds(SUM, BOTH), bounds(ROUND, Machine()), bounds(MEET, Machine(p=2))], [(2, 2), (3, 1), (2, 1)])
+        self.assertEqual([bounds(SUM, BOTH), bounds(ROUND, Machine()), bounds(MEET, Machine(p=2))],
+                         [(2, 2), (3, 1), (2, 1)])
         self.assertEqual([bounds(FIVE, Machine(p=many)) for many in (1, 2, 3)], [(1, 5), (1, 3), (1, 2)])
         full = Loop(*[Operation(name, uses=FULL) for name in "abcdefgh"])
         self.assertEqual(bounds(full, P), (1, 32))
@@ -54,7 +55,8 @@ class Least(unittest.TestCase):
     def test_an_interval_with_a_plan_whose_next_one_has_none(self):
         self.assertEqual(intervals(TWICE, P), (2, *range(4, 33)))
         self.assertEqual(least_interval(TWICE, P), 2)
-        others = [loop for loop in FEW if len(intervals(loop, machine_for(loop))) < 33 - least_interval(loop, machine_for(loop))]
+        told = [intervals(loop, machine_for(loop)) for loop in FEW]
+        others = [row for row in told if len(row) < 33 - row[0]]
         self.assertGreater(len(others), 1)
 
     def test_most(self):
@@ -95,7 +97,8 @@ class Papers(unittest.TestCase):
         for value in [(4, starts, trees), (4, starts, (*trees, TREE)), (4, starts, (*trees, ("circuit", (0, 1)))),
                       (3, starts, trees[:1]), (3, starts, (*trees, TREE)), (3, starts, trees[::-1]), (3, starts, ()),
                       (3, starts, list(trees)), (3, {"u": 0, "v": 2}, trees), (2, starts, trees[:1]), (3, starts),
-                      (3, starts, trees, 0), [3, starts, trees], ("3", starts, trees), (True, starts, ()), (0, starts, ()),
+                      (3, starts, trees, 0), [3, starts, trees], ("3", starts, trees), (True, starts, ()),
+                      (0, starts, ()),
                       (33, starts, trees), (-1, starts, trees), (None, starts, trees), (3, ("plan", starts), trees),
                       (3, starts, ("tree", trees)), (3, starts, None), (3, None, trees), (10 ** 39, starts, trees),
                       (3, starts, (("circuit", (0, 1)), None)), *all_kinds()]:

@@ -115,7 +115,8 @@ class Together(unittest.TestCase):
         self.assertIs(type(one + other), Machine)
 
     def test_no_such_sum(self):
-        for one, other in ((Machine(a=2), Machine(a=2)), (Machine(a=1), Machine(a=3)), (Machine(a=3, b=1), Machine(a=1)),
+        for one, other in ((Machine(a=2), Machine(a=2)), (Machine(a=1), Machine(a=3)),
+                           (Machine(a=3, b=1), Machine(a=1)),
                            (Machine(a=1, b=1), Machine(c=1, d=1)), (Machine(a=1, b=1, c=1), Machine(d=1))):
             with self.assertRaises(InvalidMachine):
                 one + other
@@ -130,7 +131,8 @@ class Together(unittest.TestCase):
         for one, other, wanted in ((Machine(), Machine(), True), (Machine(), Machine(a=1), True),
                                    (Machine(a=1), Machine(), False), (Machine(a=1), Machine(a=1), True),
                                    (Machine(a=1), Machine(a=3, b=1), True), (Machine(a=2), Machine(a=1, b=3), False),
-                                   (Machine(a=1, b=1), Machine(a=3), False), (Machine(a=1, b=2), Machine(a=2, b=1), False),
+                                   (Machine(a=1, b=1), Machine(a=3), False),
+                                   (Machine(a=1, b=2), Machine(a=2, b=1), False),
                                    (Machine(a=1, b=2), Machine(a=1, b=3, c=1), True)):
             self.assertIs(one.is_below(other), wanted, (str(one), str(other)))
         for value in all_kinds() + [SUM, {"a": 1}, 3]:

@@ -9,8 +9,7 @@ from overrounds.loop.loops import Loop, Operation
 from overrounds.plan.machines import Machine
 from overrounds.plan.plans import Plan, is_plan, leeway
 
-from samples import BOTH, MEET, P, SUM, all_kinds, all_starts, error_of, some_loops
-from test_plans import GOOD, NO_INTERVALS, NO_STARTS
+from samples import BOTH, GOOD, MEET, NO_INTERVALS, NO_STARTS, P, SUM, all_kinds, all_starts, error_of, some_loops
 
 PLAN = Plan(SUM, BOTH, 2, GOOD)
 FREE = Loop(Operation("a", ticks=4), Operation("b", uses=(("p", 0),)), Operation("c", uses=(("p", 1),)))
@@ -82,7 +81,8 @@ class Made(unittest.TestCase):
         self.assertEqual(list(starts), ["sum", "item"])
 
     def test_defined_in_the_class(self):
-        for name in ("duration", "events", "room", "moved", "shifted", "earliest", "grid", "__and__", "__or__", "__eq__",
+        for name in ("duration", "events", "room", "moved", "shifted", "earliest", "grid", "__and__", "__or__",
+                     "__eq__",
                      "__str__"):
             self.assertIn(name, vars(Plan))
         with self.assertRaises(TypeError):
@@ -215,7 +215,8 @@ class Same(unittest.TestCase):
         self.assertEqual(Plan(FREE, P, 2, {"a": 10 ** 6, "b": 99, "c": 5}).earliest().starts, {"a": 0, "b": 1, "c": 1})
 
     def test_earliest_of_all_with_the_same_slots(self):
-        loop = Loop(Operation("a", ticks=2, reads=(("c", 1),)), Operation("b", ticks=3, reads=(("a", 0),)), Operation("c"),
+        loop = Loop(Operation("a", ticks=2, reads=(("c", 1),)), Operation("b", ticks=3, reads=(("a", 0),)),
+                    Operation("c"),
                     orders=(("c", "a", 4, 1),))
         seen = {}
         for starts in all_starts(loop, range(13)):
@@ -258,7 +259,8 @@ class Texts(unittest.TestCase):
     def test_equal(self):
         self.assertIs(PLAN == Plan(SUM, BOTH, 2, {"sum": 1, "item": 0}), True)
         self.assertIs(PLAN != Plan(SUM, BOTH, 2, {"sum": 1, "item": 0}), False)
-        others = [PLAN.shifted(2), Plan(SUM, BOTH, 3, GOOD), Plan(SUM, BOTH + P, 2, GOOD), Plan(SUM, BOTH + BOTH, 2, GOOD),
+        others = [PLAN.shifted(2), Plan(SUM, BOTH, 3, GOOD), Plan(SUM, BOTH + P, 2, GOOD),
+                  Plan(SUM, BOTH + BOTH, 2, GOOD),
                   Plan(Loop(*SUM.operations, orders=(("item", "sum", 1, 1),)), BOTH, 2, GOOD), GOOD, SUM, "plan",
                   *all_kinds()]
         for other in others:

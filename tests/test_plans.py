@@ -10,15 +10,8 @@ from overrounds.plan import plans
 from overrounds.plan.machines import Machine
 from overrounds.plan.plans import asked, faults, is_fitting, is_plan, is_starts, leeway
 
-from samples import BOTH, MEET, P, SUM, all_kinds, error_of, slow_crowded, slow_fits, some_loops
-
-GOOD = {"item": 0, "sum": 1}
-NO_STARTS = [{}, {"item": 0}, {"sum": 0}, {**GOOD, "x": 0}, {"item": 0, "x": 0}, {"item": -1, "sum": 1},
-             {"item": 0, "sum": 10 ** 6 + 1}, {"item": 0, "sum": True}, {"item": False, "sum": 1},
-             {"item": 0, "sum": None}, {"item": 0, "sum": "1"}, {"item": (0,), "sum": 1}, {"item": 0, "sum": 10 ** 39},
-             {"item": [0], "sum": 1}, {"item": 0, 1: 1}, {"item": 0, None: 1}, {"item": 0, ("sum",): 1},
-             (("item", 0), ("sum", 1)), [0, 1], (0, 1)]
-NO_INTERVALS = (0, 33, -1, True, False, None, "2", (2,), [2], {2: 2}, 10 ** 12, 10 ** 39, SUM)
+from samples import (BOTH, GOOD, MEET, NO_INTERVALS, NO_STARTS, P, SUM, all_kinds, error_of, slow_crowded, slow_fits,
+                     some_loops)
 
 
 class Starts(unittest.TestCase):
@@ -61,7 +54,8 @@ class Fitting(unittest.TestCase):
     def test_orders_count(self):
         loop = Loop(Operation("a"), Operation("b"), orders=(("a", "b", 4, 0), ("b", "a", 0, 3)))
         self.assertEqual([is_fitting(loop, 1, {"a": 0, "b": at}) for at in range(6)], [False] * 6)
-        self.assertEqual([is_fitting(loop, 2, {"a": 0, "b": at}) for at in range(8)], [False] * 4 + [True] * 3 + [False])
+        self.assertEqual([is_fitting(loop, 2, {"a": 0, "b": at}) for at in range(8)],
+                         [False] * 4 + [True] * 3 + [False])
 
     def test_other_values(self):
         for value in NO_STARTS + all_kinds():
@@ -163,7 +157,8 @@ class Errors(unittest.TestCase):
 
     def test_starts(self):
         for wrong in NO_STARTS + all_kinds():
-            for call in (lambda: leeway(SUM, 2, wrong), lambda: asked(SUM, 2, wrong), lambda: faults(SUM, BOTH, 2, wrong)):
+            for call in (lambda: leeway(SUM, 2, wrong), lambda: asked(SUM, 2, wrong),
+                         lambda: faults(SUM, BOTH, 2, wrong)):
                 self.assertIs(error_of(call)[0], InvalidArgument, wrong)
 
     def test_loops_and_machines(self):

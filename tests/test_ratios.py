@@ -126,7 +126,8 @@ class Papers(unittest.TestCase):
             self.assertIs(is_ratio_paper(ROUND, ("ring", (0, 1, 2), wrong)), False, wrong)
         for wrong in [(0, 1), (0, 2, 1), (), (0, 1, 2, 0), [0, 1, 2], (0, 1, 3), (0, True, 2), *all_kinds()]:
             self.assertIs(is_ratio_paper(ROUND, ("ring", wrong, good)), False, wrong)
-        for wrong in [("ring", (0, 1, 2)), ("ring", (0, 1, 2), good, 0), ["ring", (0, 1, 2), good], ("circuit", (0, 1, 2), good),
+        for wrong in [("ring", (0, 1, 2)), ("ring", (0, 1, 2), good, 0), ["ring", (0, 1, 2), good],
+                      ("circuit", (0, 1, 2), good),
                       (None, (0, 1, 2), good)]:
             self.assertIs(is_ratio_paper(ROUND, wrong), False, wrong)
 
@@ -250,7 +251,8 @@ class Errors(unittest.TestCase):
         for wrong in all_kinds():
             if not isinstance(wrong, Loop):
                 for call in (lambda: ratio(wrong), lambda: critical(wrong), lambda: ratio_paper(wrong),
-                             lambda: is_ratio_paper(wrong, None), lambda: unrolled(wrong, 1), lambda: unrolled(wrong, 0),
+                             lambda: is_ratio_paper(wrong, None), lambda: unrolled(wrong, 1),
+                             lambda: unrolled(wrong, 0),
                              lambda: unrolled_interval(wrong, 0), lambda: best_copies(wrong)):
                     self.assertIs(error_of(call)[0], InvalidLoop, wrong)
 

@@ -12,8 +12,8 @@ from overrounds.loop.loops import Loop, Operation
 from overrounds.plan.plans import is_fitting
 from overrounds.rings.starts import free_interval, least_starts
 
-from samples import (ROUND, SUM, all_kinds, error_of, slow_across, slow_alive, some_loops, some_rows)
-from test_plans import NO_INTERVALS, NO_STARTS
+from samples import (NO_INTERVALS, NO_STARTS, ROUND, SUM, all_kinds, error_of, slow_across, slow_alive, some_loops,
+                     some_rows)
 
 TWO = Spans(2, {"a": (0, 2), "b": (1, 3)})
 FIVE = Spans(5, {"a": (0, 2), "b": (1, 3), "c": (2, 4), "d": (3, 5), "e": (4, 6)})
@@ -57,7 +57,8 @@ class Made(unittest.TestCase):
     def test_properties(self):
         told = {"b": (1, 3), "a": (-4, 2)}
         spans = Spans(2, told)
-        self.assertEqual((spans.interval, list(spans.rows.items()), spans.names), (2, [("a", (-4, 2)), ("b", (1, 3))], ("a", "b")))
+        self.assertEqual((spans.interval, list(spans.rows.items()), spans.names),
+                         (2, [("a", (-4, 2)), ("b", (1, 3))], ("a", "b")))
         self.assertEqual(list(told), ["b", "a"])
         told["a"] = (0, 1)
         spans.rows["a"] = (0, 1)
@@ -86,8 +87,10 @@ class Made(unittest.TestCase):
         self.assertEqual(Spans(1, {"a": (HIGH - 1, HIGH), "b": (-HIGH, 2 - HIGH)}).total, 3)
 
     def test_wrong_rows(self):
-        for wrong in [{"a": (0, 1, 2)}, {"a": (0,)}, {"a": [0, 1]}, {"a": (0, True)}, {"a": (False, 1)}, {"a": (None, 1)},
-                      {"a": (0, None)}, {"a": ("0", 1)}, {"a": 1}, {"a": None}, {"a": (0, 1), "B": (0, 1)}, {"": (0, 1)},
+        for wrong in [{"a": (0, 1, 2)}, {"a": (0,)}, {"a": [0, 1]}, {"a": (0, True)}, {"a": (False, 1)},
+                      {"a": (None, 1)},
+                      {"a": (0, None)}, {"a": ("0", 1)}, {"a": 1}, {"a": None}, {"a": (0, 1), "B": (0, 1)},
+                      {"": (0, 1)},
                       {"abcdefghi": (0, 1)}, {1: (0, 1)}, {None: (0, 1)}, {("a",): (0, 1)}, {"a": (HIGH, HIGH + 1)},
                       {"a": (10 ** 39, 10 ** 39 + 1)}, {"a": (0, 1), "b": (1, 1)}, (("a", (0, 1)),), [("a", (0, 1))],
                       TWO, *all_kinds()]:
@@ -100,8 +103,10 @@ class Made(unittest.TestCase):
             self.assertIs(error.value, wrong)
 
     def test_defined_in_the_class(self):
-        for name in ("interval", "rows", "names", "most", "peaks", "total", "pieces", "normal", "alive", "across", "is_full",
-                     "most_of", "is_apart", "each_alive", "__getitem__", "__contains__", "__len__", "__iter__", "__add__",
+        for name in ("interval", "rows", "names", "most", "peaks", "total", "pieces", "normal", "alive", "across",
+                     "is_full",
+                     "most_of", "is_apart", "each_alive", "__getitem__", "__contains__", "__len__", "__iter__",
+                     "__add__",
                      "__or__", "__and__", "__eq__", "__str__"):
             self.assertIn(name, vars(Spans))
 
@@ -109,7 +114,8 @@ class Made(unittest.TestCase):
 class Counted(unittest.TestCase):
     def test_examples(self):
         self.assertEqual([TWO.most, TWO.peaks, TWO.alive(0), TWO.across(0), TWO.across(0, "a"), list(TWO.each_alive(0)),
-                          TWO.is_full(0, "a"), TWO.is_full(0, "b")], [2, (0, 1), 2, 1, 0, [("a", 0), ("b", -1)], False, True])
+                          TWO.is_full(0, "a"), TWO.is_full(0, "b")],
+                         [2, (0, 1), 2, 1, 0, [("a", 0), ("b", -1)], False, True])
         self.assertEqual([FIVE.most, FIVE.most_of("a", "c"), FIVE.across(7), FIVE.total, (FIVE + 3)["e"],
                           (FIVE + 3).normal["e"], str(FIVE & ("b", "d"))],
                          [2, 1, 1, 10, (7, 9), (2, 4), "spans of 2 names in 5 ticks"])
@@ -164,7 +170,8 @@ class Counted(unittest.TestCase):
     def test_repeated_names_count_once(self):
         self.assertEqual((FIVE.alive(1, "a", "b", "a"), FIVE.alive(1, "a", "b")), (2, 2))
         self.assertEqual((FIVE.across(1, "a", "a"), FIVE.most_of("c", "c")), (1, 1))
-        self.assertEqual((FIVE.is_full(1, "a", "a"), TWO.is_apart("a", "a"), TWO.is_apart("a", "b", "a")), (True, True, False))
+        self.assertEqual((FIVE.is_full(1, "a", "a"), TWO.is_apart("a", "a"), TWO.is_apart("a", "b", "a")),
+                         (True, True, False))
 
     def test_each_alive_is_ascending(self):
         long = Spans(2, {"b": (0, 16), "a": (1, 5)})
@@ -233,7 +240,8 @@ class Errors(unittest.TestCase):
             self.assertIs(wrong in TWO, False)
 
     def test_container(self):
-        self.assertEqual((TWO["b"], "a" in TWO, len(TWO), list(TWO), list(TWO)), ((1, 3), True, 2, ["a", "b"], ["a", "b"]))
+        self.assertEqual((TWO["b"], "a" in TWO, len(TWO), list(TWO), list(TWO)),
+                         ((1, 3), True, 2, ["a", "b"], ["a", "b"]))
         self.assertEqual(list(Spans(1, {"c": (0, 1), "a": (0, 1), "b": (0, 1)})), ["a", "b", "c"])
 
     def test_equal_and_text(self):
@@ -261,7 +269,8 @@ class Together(unittest.TestCase):
 
     def test_of_both(self):
         other = Spans(2, {"c": (5, 6), "A".lower() * 2: (0, 16)})
-        self.assertEqual(list((TWO | other).rows.items()), [("a", (0, 2)), ("aa", (0, 16)), ("b", (1, 3)), ("c", (5, 6))])
+        self.assertEqual(list((TWO | other).rows.items()),
+                         [("a", (0, 2)), ("aa", (0, 16)), ("b", (1, 3)), ("c", (5, 6))])
         self.assertEqual((TWO | other, len(TWO), len(other)), (other | TWO, 2, 2))
         six = Spans(2, {name: (0, 1) for name in "cdefgh"})
         self.assertEqual(len(TWO | six), 8)
@@ -273,7 +282,8 @@ class Together(unittest.TestCase):
     def test_of_some_names(self):
         self.assertEqual((FIVE & ("b", "d")).rows, {"b": (1, 3), "d": (3, 5)})
         self.assertEqual(((FIVE & FIVE.names), (FIVE & ("e",)).rows), (FIVE, {"e": (4, 6)}))
-        for wrong in [(), ("b", "a"), ("a", "a"), ("a", "f"), ["a"], {"a": 1}, "a", "ab", ("a", None), ("a", ["b"]), (("a",),),
+        for wrong in [(), ("b", "a"), ("a", "a"), ("a", "f"), ["a"], {"a": 1}, "a", "ab", ("a", None), ("a", ["b"]),
+                      (("a",),),
                       None, FIVE, *all_kinds()]:
             if wrong != ("a",):
                 with self.assertRaises(InvalidArgument, msg=wrong):
@@ -283,7 +293,8 @@ class Together(unittest.TestCase):
 class OfALoop(unittest.TestCase):
     def test_never_read(self):
         self.assertEqual(spans_of(Loop(Operation("a", ticks=4)), 1, {"a": 7}).rows, {"a": (11, 12)})
-        self.assertEqual(spans_of(Loop(Operation("a", ticks=4)), 32, {"a": 10 ** 6}).rows, {"a": (10 ** 6 + 4, 10 ** 6 + 5)})
+        self.assertEqual(spans_of(Loop(Operation("a", ticks=4)), 32, {"a": 10 ** 6}).rows,
+                         {"a": (10 ** 6 + 4, 10 ** 6 + 5)})
 
     def test_read_in_the_same_round_and_later(self):
         loop = Loop(Operation("a", ticks=2), Operation("b", reads=(("a", 0),)))
@@ -291,7 +302,8 @@ class OfALoop(unittest.TestCase):
         self.assertEqual(spans_of(loop, 3, {"a": 1, "b": 9}).rows, {"a": (3, 10), "b": (10, 11)})
         later = Loop(Operation("a", ticks=2), Operation("b", reads=(("a", 3),)))
         self.assertEqual(spans_of(later, 3, {"a": 1, "b": 3}).rows, {"a": (3, 13), "b": (4, 5)})
-        both = Loop(Operation("a", ticks=2), Operation("b", reads=(("a", 0), ("a", 1))), Operation("c", reads=(("a", 2),)))
+        both = Loop(Operation("a", ticks=2), Operation("b", reads=(("a", 0), ("a", 1))),
+                    Operation("c", reads=(("a", 2),)))
         self.assertEqual(spans_of(both, 3, {"a": 0, "b": 2, "c": 0})["a"], (2, 7))
         self.assertEqual(spans_of(both, 3, {"a": 0, "b": 6, "c": 0})["a"], (2, 10))
         self.assertEqual(list(spans_of(both, 3, {"c": 0, "b": 2, "a": 0}).rows), ["a", "b", "c"])
@@ -346,7 +358,8 @@ class OfALoop(unittest.TestCase):
             self.assertIs(error_of(spans_of, SUM, wrong, {})[0], InvalidNumber, wrong)
         for wrong in NO_STARTS + all_kinds():
             self.assertIs(error_of(spans_of, SUM, 2, wrong)[0], InvalidArgument, wrong)
-        for interval, starts in ((1, {"item": 0, "sum": 1}), (2, {"item": 1, "sum": 1}), (2, {"item": 10 ** 6, "sum": 0})):
+        for interval, starts in ((1, {"item": 0, "sum": 1}), (2, {"item": 1, "sum": 1}),
+                                 (2, {"item": 10 ** 6, "sum": 0})):
             self.assertFalse(is_fitting(SUM, interval, starts))
             self.assertIs(error_of(spans_of, SUM, interval, starts)[0], InvalidArgument)
 

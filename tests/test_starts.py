@@ -7,8 +7,7 @@ from overrounds.loop.loops import Loop, Operation
 from overrounds.plan.plans import is_fitting
 from overrounds.rings.starts import free_interval, gap, is_start_paper, least_starts, slacks, start_paper
 
-from samples import MEET, ROUND, SUM, all_kinds, all_starts, error_of, slow_fits, slow_rings, some_loops
-from test_plans import NO_INTERVALS
+from samples import MEET, NO_INTERVALS, ROUND, SUM, all_kinds, all_starts, error_of, slow_fits, slow_rings, some_loops
 
 LOOPS = some_loops(250)
 PLAIN = Loop(Operation("a"), Operation("b"), Operation("c", reads=(("b", 2),)))
@@ -89,7 +88,8 @@ class Papers(unittest.TestCase):
         for value in [("starts", {**good, "b": 1}), ("starts", {**good, "c": 5}), ("starts", {"a": 0, "b": 2}),
                       ("starts", {**good, "d": 0}), ("starts", {**good, "a": True}), ("starts", (0, 2, 3)), ("starts",),
                       ("ring", good), ("starts", good, ()), ["starts", good], good, ("Starts", good), (None, good),
-                      ("starts", {"a": -1, "b": 1, "c": 2}), ("starts", {name: 10 ** 6 + at for name, at in good.items()}),
+                      ("starts", {"a": -1, "b": 1, "c": 2}),
+                      ("starts", {name: 10 ** 6 + at for name, at in good.items()}),
                       ("circuit", (0, 1, 2)), (ROUND, good), *[(kind, value) for kind in ("starts", "ring")
                                                                for value in all_kinds()], *all_kinds()]:
             self.assertIs(is_start_paper(ROUND, 3, value), False, value)
@@ -97,7 +97,9 @@ class Papers(unittest.TestCase):
                      (0, True, 2), (0, 1, "2"), (0, 1, 2, 0, 1, 2), (0, 1, 10 ** 39), {0: 1}, 0, None]:
             self.assertIs(is_start_paper(ROUND, 2, ("ring", ring)), False, ring)
         self.assertIs(is_start_paper(ROUND, 2, ("starts", good)), False)
-        self.assertIs(is_start_paper(ROUND, 2, ["ring", (0, 1, 2)]), False)
+        for wrong in (["ring", (0, 1, 2)], ("circuit", (0, 1, 2)), ("Ring", (0, 1, 2)), (None, (0, 1, 2)),
+                      ("ring", (0, 1, 2), 0)):
+            self.assertIs(is_start_paper(ROUND, 2, wrong), False)
 
 
 class Least(unittest.TestCase):

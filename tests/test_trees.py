@@ -11,19 +11,14 @@ from overrounds.rings.ratios import unrolled
 from overrounds.units import trees
 from overrounds.units.trees import (has_plan, interval_paper, is_interval_paper, is_slots_paper, need, slots_paper)
 
-from samples import (BOTH, MEET, P, ROUND, SUM, all_kinds, error_of, machine_for, slow_need, slow_rings, some_loops,
-                     told_slots)
-from test_plans import NO_INTERVALS
+from samples import (BOTH, FIVE, FOUR, MEET, NO_INTERVALS, P, ROUND, SUM, TREE, all_kinds, error_of, machine_for,
+                     slow_need, slow_rings, some_loops, told_slots)
 
 LOOPS = [loop for loop in some_loops(500) if len(loop) <= 4]
-FEW = [loop for loop in LOOPS if len(loop.asking) <= 4]
 # From a to b and back again there are ways through w alone.
 EIGHT_SHAPED = Loop(Operation("a"), Operation("b"), Operation("w"),
                     orders=(("a", "w", 1, 0), ("b", "w", 1, 1), ("w", "a", 1, 1), ("w", "b", 1, 0)))
 SELF = Loop(Operation("a", reads=(("a", 1), ("a", 2))))
-TREE = ("split", "u", (("split", "v", (("circuit", (0, 1)), ("unit", "p", 0))),))
-FIVE = Loop(*[Operation(name, uses=(("p", 0),)) for name in "abcde"])
-FOUR = Loop(*[Operation(name, uses=(("p", 0),)) for name in "abcd"], Operation("e"))
 
 
 def slow_has_plan(loop, machine, interval):
@@ -80,12 +75,14 @@ class Need(unittest.TestCase):
         self.assertEqual([EIGHT_SHAPED.arcs[at] for at in around],
                          [("a", "w", 1, 0), ("w", "b", 1, 0), ("b", "w", 1, 1), ("w", "a", 1, 1)])
         self.assertEqual([need(EIGHT_SHAPED, 2, slots, around) for slots in
-                          ({}, {"w": 0}, {"w": 1}, {"a": 0}, {"a": 0, "b": 0}, {"a": 0, "b": 1}, {"a": 0, "b": 1, "w": 1})],
+                          ({}, {"w": 0}, {"w": 1}, {"a": 0}, {"a": 0, "b": 0}, {"a": 0, "b": 1},
+                           {"a": 0, "b": 1, "w": 1})],
                          [0, 0, 0, 0, 0, 2, 2])
         # Two rounds of one ring need twice as much.
         self.assertEqual([need(ROUND, 2, slots, (0, 1, 2) * 2) for slots in ({}, {"a": 1})], [2, 4])
         self.assertEqual([need(SELF, 3, slots, (0, 1, 0)) for slots in ({}, {"a": 2})], [-9, -3])
-        self.assertEqual([need(SELF, 5, {"a": 0}, circuit) for circuit in ((0,), (1,), (0, 1), (0, 0, 1))], [0, -5, -5, -5])
+        self.assertEqual([need(SELF, 5, {"a": 0}, circuit) for circuit in ((0,), (1,), (0, 1), (0, 0, 1))],
+                         [0, -5, -5, -5])
 
     def test_it_may_begin_anywhere(self):
         draw = Random(2)
@@ -112,7 +109,8 @@ class Need(unittest.TestCase):
             self.assertIs(error_of(need, SELF, 1, {}, wrong)[0], InvalidArgument)
 
     def test_what_is_no_circuit(self):
-        for wrong in [(0,), (1,), (0, 2, 1), (0, 1), (1, 2), (0, 1, 2, 0), (0, 1, 3), (0, 1, -1), (False, 1, 2), (0, True, 2),
+        for wrong in [(0,), (1,), (0, 2, 1), (0, 1), (1, 2), (0, 1, 2, 0), (0, 1, 3), (0, 1, -1), (False, 1, 2),
+                      (0, True, 2),
                       (0, 1, "2"), (0, 1, None), [0, 1, 2], {0: 1}, "012", 0, (0, 1, (2,)), (0, 1, 10 ** 39), ROUND,
                       *all_kinds()]:
             self.assertIs(error_of(need, ROUND, 3, {}, wrong)[0], InvalidArgument, wrong)
@@ -123,8 +121,10 @@ class Need(unittest.TestCase):
                      lambda slots: is_slots_paper(ROUND, 3, slots, None)):
             for good in ({}, {"a": 0}, {"c": 2, "a": 1}, {"a": 0, "b": 1, "c": 2}):
                 self.assertIsNone(error_of(call, good)[0])
-            for wrong in [{"d": 0}, {"a": 3}, {"a": -1}, {"a": True}, {"a": False}, {"a": None}, {"a": "0"}, {"a": (0,)},
-                          {"a": 0, "d": 0}, {"a": 0, 1: 0}, {None: 0}, {("a",): 0}, {"a": 10 ** 39}, {"a": [0]}, (("a", 0),),
+            for wrong in [{"d": 0}, {"a": 3}, {"a": -1}, {"a": True}, {"a": False}, {"a": None}, {"a": "0"},
+                          {"a": (0,)},
+                          {"a": 0, "d": 0}, {"a": 0, 1: 0}, {None: 0}, {("a",): 0}, {"a": 10 ** 39}, {"a": [0]},
+                          (("a", 0),),
                           ["a"], (), [], None, 0, "a", True, ROUND, P]:
                 self.assertIs(error_of(call, wrong)[0], InvalidArgument, wrong)
 
@@ -215,7 +215,8 @@ class Slots(unittest.TestCase):
             self.assertIs(is_slots_paper(MEET, 2, slots, ("starts", starts)), True)
         for value in [("starts", {"u": 0, "v": 1}), ("starts", {"u": 1, "v": 0}), ("starts", {"u": 1, "v": 4}),
                       ("starts", {"u": 1}), ("starts", {"u": 1, "v": 2, "w": 0}), ("starts", {"u": True, "v": 2}),
-                      ("starts", {"u": 10 ** 6 + 1, "v": 10 ** 6 + 2}), ("starts", {"u": -1, "v": 0}), ("plan", {"u": 1, "v": 2}),
+                      ("starts", {"u": 10 ** 6 + 1, "v": 10 ** 6 + 2}), ("starts", {"u": -1, "v": 0}),
+                      ("plan", {"u": 1, "v": 2}),
                       ("starts", {"u": 1, "v": 2}, 0), ["starts", {"u": 1, "v": 2}], ("starts",), ("circuit", ()),
                       ("circuit", (0, 1)), ("circuit", (0, 1, 0, 1)), {"u": 1, "v": 2}, *all_kinds(),
                       *[(kind, value) for kind in ("starts", "circuit") for value in all_kinds()]]:
@@ -225,12 +226,14 @@ class Slots(unittest.TestCase):
         slots = {"v": 0, "u": 1}
         paper = slots_paper(MEET, 2, slots)
         paper[1]["u"] = 9
-        self.assertEqual((list(slots.items()), slots_paper(MEET, 2, slots)), ([("v", 0), ("u", 1)], ("starts", {"u": 1, "v": 2})))
+        self.assertEqual((list(slots.items()), slots_paper(MEET, 2, slots)),
+                         ([("v", 0), ("u", 1)], ("starts", {"u": 1, "v": 2})))
 
     def test_long_circuits(self):
         # All eight slots told: each stretch is one arc, and the circuit is the only ring.
         letters = "abcdefgh"
-        loop = Loop(*[Operation(name, reads=((before, int(name == "a")),)) for before, name in zip("h" + letters, letters)])
+        loop = Loop(*[Operation(name, reads=((before, int(name == "a")),))
+                      for before, name in zip("h" + letters, letters)])
         kind, circuit = slots_paper(loop, 9, {name: 0 for name in letters})
         self.assertEqual((kind, sorted(circuit)), ("circuit", list(range(8))))
         self.assertEqual(slots_paper(loop, 9, {name: at for at, name in enumerate(letters)})[0], "starts")
@@ -255,6 +258,9 @@ class Trees(unittest.TestCase):
         self.assertTrue(self.is_right(("split", "a", (("unit", "p", 0),)), 3, crowded))
         self.assertFalse(self.is_right(("unit", "p", 0), 3, crowded))
         self.assertFalse(self.is_right(("circuit", (0, 1))))
+        for word in ("ring", "Circuit", "split", "unit", "tree", None, ("circuit",)):
+            self.assertFalse(self.is_right((word, (0, 1)), interval=1))
+            self.assertIs(is_slots_paper(MEET, 2, {"u": 0, "v": 0}, (word, (0, 1))), False)
 
     def test_one_tree_or_all_at_the_first_split(self):
         first = TREE[2][0]
@@ -268,11 +274,15 @@ class Trees(unittest.TestCase):
 
     def test_one_tree_at_a_later_split(self):
         self.assertFalse(self.is_right(("split", "u", (("split", "v", (("circuit", (0, 1)),)),))))
-        self.assertFalse(self.is_right(("split", "u", (("split", "v", (("circuit", (0, 1)), ("unit", "p", 0), ("unit", "p", 0))),))))
+        more = ("split", "v", (("circuit", (0, 1)), ("unit", "p", 0), ("unit", "p", 0)))
+        self.assertFalse(self.is_right(("split", "u", (more,))))
 
     def test_told_operations_are_not_split_again(self):
-        again = ("split", "u", (("circuit", (0, 1)), ("circuit", (0, 1))))
+        # Each leaf is right for the slot that its split tells, and yet u is told already.
+        again = ("split", "u", (("circuit", (0, 1)), ("unit", "p", 1)))
         self.assertFalse(self.is_right(("split", "u", (("split", "v", (again, ("unit", "p", 0))),))))
+        other = ("split", "v", (("circuit", (0, 1)), ("unit", "p", 0)))
+        self.assertFalse(self.is_right(("split", "u", (("split", "v", (other, ("unit", "p", 0))),))))
         self.assertFalse(self.is_right(("split", "u", (("split", "u", (TREE[2][0], TREE[2][0])),))))
 
     def test_circuits_that_do_not_gain(self):
@@ -298,8 +308,10 @@ class Trees(unittest.TestCase):
         self.assertFalse(self.is_right(("split", "x", (TREE,)), loop=loop))
 
     def test_wrong_forms(self):
-        for wrong in [("split", "w", TREE[2]), ("split", None, TREE[2]), ("split", ["u"], TREE[2]), ("split", "u", list(TREE[2])),
-                      ("split", "u", TREE[2][0]), ("split", "u"), ("split", "u", TREE[2], 0), list(TREE), ("Split", "u", TREE[2]),
+        for wrong in [("split", "w", TREE[2]), ("split", None, TREE[2]), ("split", ["u"], TREE[2]),
+                      ("split", "u", list(TREE[2])),
+                      ("split", "u", TREE[2][0]), ("split", "u"), ("split", "u", TREE[2], 0), list(TREE),
+                      ("Split", "u", TREE[2]),
                       ("split", "u", (None,)), ("split", "u", (("split", "v", (None, None)),)), ("split", "u", None),
                       ("split", "u", {}), ("circuit", [0, 1]), ("circuit",), ("circuit", (0, 1), 0), ("circuit", ()),
                       ("tree", TREE), ("plan", {"u": 0, "v": 1}), ("starts", {"u": 0, "v": 1}), *all_kinds()]:
@@ -337,7 +349,7 @@ def changed_leaves(tree):
 class Papers(unittest.TestCase):
     def test_against_all_slots_tried(self):
         draw, kinds = Random(7), {"plan": 0, "tree": 0}
-        for loop in FEW[::2]:
+        for loop in LOOPS[::2]:
             machine = machine_for(loop, draw.choice((1, 1, 2)))
             for interval in (1, 2, 3, 4):
                 kind, found = interval_paper(loop, machine, interval)
@@ -351,7 +363,7 @@ class Papers(unittest.TestCase):
         self.assertGreater(min(kinds.values()), 100)
 
     def test_at_four_times_the_operations_there_is_a_plan(self):
-        for loop in FEW:
+        for loop in LOOPS:
             for interval in range(4 * len(loop), 33, 5):
                 self.assertTrue(has_plan(loop, machine_for(loop), interval))
 
@@ -359,8 +371,9 @@ class Papers(unittest.TestCase):
         twice = Loop(Operation("a", uses=(("p", 0), ("p", 3))))
         self.assertEqual([has_plan(twice, P, interval) for interval in (1, 2, 3, 4)], [False, True, False, True])
         self.assertEqual(interval_paper(twice, P, 3)[0], "tree")
-        self.assertIs(is_interval_paper(twice, P, 3, ("tree", ("split", "a", (("unit", "p", 0),) * 3))), False)
-        self.assertIs(is_interval_paper(twice, P, 3, ("tree", ("split", "a", tuple(("unit", "p", at) for at in range(3))))), True)
+        for units, wanted in (([0], True), ([0, 1, 2], True), ([0, 0, 0], False), ([0, 1], False)):
+            tree = ("split", "a", tuple(("unit", "p", at) for at in units))
+            self.assertIs(is_interval_paper(twice, P, 3, ("tree", tree)), wanted)
 
     def test_plans(self):
         for starts in ({"u": 0, "v": 1}, {"v": 11, "u": 10}):
@@ -383,7 +396,8 @@ class Papers(unittest.TestCase):
             self.assertEqual(error.limit, 4)
         self.assertIs(is_interval_paper(FIVE, P, 5, ("plan", {name: at for at, name in enumerate("abcde")})), True)
         self.assertIs(is_interval_paper(FIVE, P, 4, ("plan", {name: at for at, name in enumerate("abcde")})), False)
-        self.assertIs(is_interval_paper(FIVE, P, 1, ("tree", ("split", "a", (("split", "e", (("unit", "p", 0),)),)))), True)
+        self.assertIs(is_interval_paper(FIVE, P, 1, ("tree", ("split", "a", (("split", "e", (("unit", "p", 0),)),)))),
+                      True)
 
     def test_a_wide_loop(self):
         orders = tuple(("a", "b", delay, distance) for delay in (1, 2) for distance in range(4))

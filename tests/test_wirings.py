@@ -45,7 +45,8 @@ def some_wirings(seed, many):
     for _ in range(many):
         row = list(spans.names)
         draw.shuffle(row)
-        follows = {name: (other, (spans[other][0] - spans[name][1]) % interval + interval * draw.choice((0, 0, 0, 1, 2)))
+        follows = {name: (other, (spans[other][0] - spans[name][1]) % interval + draw.choice((0, 0, 0, 1,
+                                                                                              2)) * interval)
                    for name, other in zip(spans.names, row)}
         try:
             found.append(Wiring(spans, follows))
@@ -96,7 +97,8 @@ class Made(unittest.TestCase):
         for wrong in [{"p": ("p", 1)}, {"p": ("p", 1), "q": ("q", 1), "r": ("r", 1)}, {"p": ("p", 1), "r": ("q", 1)},
                       {"p": ("p", 1), "q": ("p", 1)}, {"p": ("q", 1), "q": ("q", 1)}, {"p": ("p", 1), "q": ("q", -2)},
                       {"p": ("p", 1), "q": ("q", 0)}, {"p": ("p", 1), "q": ("q", 2)}, {"p": ("p", 1), "q": ("q", 3)},
-                      {"p": ("p", True), "q": ("q", 1)}, {"p": ("p", 1), "q": ("q", None)}, {"p": ("p", 1), "q": ("q", "1")},
+                      {"p": ("p", True), "q": ("q", 1)}, {"p": ("p", 1), "q": ("q", None)},
+                      {"p": ("p", 1), "q": ("q", "1")},
                       {"p": ("p", 1), "q": ("q",)}, {"p": ("p", 1), "q": ("q", 1, 0)}, {"p": ("p", 1), "q": ["q", 1]},
                       {"p": ("p", 1), "q": ("r", 1)}, {"p": ("p", 1), "q": (None, 1)}, {"p": ("p", 1), "q": (["q"], 1)},
                       {"p": ("p", 1), "q": "q"}, {"p": ("p", 1), "q": None}, {"p": ("p", 1), 1: ("q", 1)}, {},
@@ -107,10 +109,12 @@ class Made(unittest.TestCase):
 
     def test_a_value_begins_where_a_wait_ends(self):
         for wait in range(12):
-            kind, _ = error_of(Wiring, FIVE, {"a": ("b", 4), "b": ("c", 4), "c": ("d", 4), "d": ("e", 4), "e": ("a", wait)})
+            kind, _ = error_of(Wiring, FIVE, {"a": ("b", 4), "b": ("c", 4), "c": ("d", 4), "d": ("e", 4),
+                                              "e": ("a", wait)})
             self.assertIs(kind, None if wait in (4, 9) else InvalidWiring)
         late = Spans(3, {"p": (100, 102), "q": (-50, -43)})
-        self.assertEqual([wait for wait in range(7) if error_of(Wiring, late, {"p": ("q", wait), "q": ("p", 2)})[0] is None], [1, 4])
+        kinds = [error_of(Wiring, late, {"p": ("q", wait), "q": ("p", 2)})[0] for wait in range(7)]
+        self.assertEqual([wait for wait in range(7) if kinds[wait] is None], [1, 4])
 
     def test_how_many_registers(self):
         for wait, wanted in ((1 + 3 * 70, 72), (1 + 3 * 71, None)):
@@ -123,7 +127,8 @@ class Made(unittest.TestCase):
         eight = Spans(2, {name: (at, at + 16) for at, name in enumerate("abcdefgh")})
         self.assertEqual(Wiring(eight, {name: (name, 0) for name in "abcdefgh"}).sizes, (8,) * 8)
         self.assertEqual(Wiring(eight, {name: (name, 2) for name in "abcdefgh"}).registers, 72)
-        self.assertIs(error_of(Wiring, eight, {name: (name, 4 if name == "a" else 2) for name in "abcdefgh"})[0], InvalidWiring)
+        self.assertIs(error_of(Wiring, eight, {name: (name, 4 if name == "a" else 2) for name in "abcdefgh"})[0],
+                      InvalidWiring)
 
     def test_defined_in_the_class(self):
         for name in ("spans", "follows", "registers", "cycles", "sizes", "copies", "after", "each_free", "exchanged",
@@ -151,7 +156,8 @@ class Told(unittest.TestCase):
 
     def test_cycles_and_sizes(self):
         wiring = Wiring(FIVE, {"a": ("c", 0), "c": ("e", 0), "e": ("a", 4), "b": ("d", 0), "d": ("b", 1)})
-        self.assertEqual((wiring.cycles, wiring.sizes, wiring.registers, wiring.copies), ((("a", "c", "e"), ("b", "d")), (2, 1), 3, 2))
+        self.assertEqual((wiring.cycles, wiring.sizes, wiring.registers, wiring.copies),
+                         ((("a", "c", "e"), ("b", "d")), (2, 1), 3, 2))
         for wiring in WIRINGS:
             self.assertEqual(sorted(name for cycle in wiring.cycles for name in cycle), list(wiring.spans.names))
             self.assertEqual(list(wiring.cycles), sorted(wiring.cycles))
@@ -206,7 +212,8 @@ class Told(unittest.TestCase):
                       Wiring(PAIR, {"p": ("p", 1), "q": ("q", 4)}), PAIR, ALONE.follows, "wiring", *all_kinds()]:
             self.assertIs(ALONE == other, False)
             self.assertIs(ALONE != other, True)
-        self.assertEqual([str(ALONE), str(joined(ALONE))], ["wiring of 2 registers in 2 cycles", "wiring of 2 registers in 1 cycles"])
+        self.assertEqual([str(ALONE), str(joined(ALONE))],
+                         ["wiring of 2 registers in 2 cycles", "wiring of 2 registers in 1 cycles"])
 
 
 class Exchanged(unittest.TestCase):
@@ -224,7 +231,8 @@ class Exchanged(unittest.TestCase):
                             continue
                         made = wiring.exchanged(moment, one, other)
                         self.assertEqual((made.spans, made.registers), (wiring.spans, wiring.registers))
-                        self.assertEqual((made.after(*one), made.after(*other)), (wiring.after(*other), wiring.after(*one)))
+                        self.assertEqual((made.after(*one), made.after(*other)),
+                                         (wiring.after(*other), wiring.after(*one)))
                         self.assertEqual({k: v for k, v in made.follows.items() if k not in (one[0], other[0])},
                                          {k: v for k, v in wiring.follows.items() if k not in (one[0], other[0])})
                         same = any(one[0] in cycle and other[0] in cycle for cycle in wiring.cycles)
@@ -233,8 +241,10 @@ class Exchanged(unittest.TestCase):
         self.assertGreater(min(changed.values()), 50)
 
     def test_values_that_are_not_free(self):
-        for wrong in [("p", 1), ("p", -1), ("p", True), ("p", False), ("p", None), ("p", "0"), ("r", 0), ("p",), ("p", 0, 0),
-                      ["p", 0], "p", 0, None, {"p": 0}, ("p", 10 ** 39), (["p"], 0), (None, 0), ("p", (0,)), PAIR, *all_kinds()]:
+        for wrong in [("p", 1), ("p", -1), ("p", True), ("p", False), ("p", None), ("p", "0"), ("r", 0), ("p",),
+                      ("p", 0, 0),
+                      ["p", 0], "p", 0, None, {"p": 0}, ("p", 10 ** 39), (["p"], 0), (None, 0), ("p", (0,)), PAIR,
+                      *all_kinds()]:
             self.assertIs(error_of(ALONE.exchanged, 2, wrong, ("q", 0))[0], InvalidArgument, wrong)
             self.assertIs(error_of(ALONE.exchanged, 2, ("q", 0), wrong)[0], InvalidArgument, wrong)
         for moment in (1, 4):
@@ -298,12 +308,14 @@ class Papers(unittest.TestCase):
         self.assertIs(is_wiring_paper(TWO, 3, ("wiring", good)), True)
         for registers, value in [(2, ("wiring", good)), (4, ("wiring", good)), (0, ("wiring", good)), (3, ("alive", 0)),
                                  (3, ("wiring", {"a": ("b", 1), "b": ("a", 3)})), (3, ("wiring", Wiring(TWO, good))),
-                                 (3, ("wiring", good, 0)), (3, ["wiring", good]), (3, ("Wiring", good)), (3, good), (3, None)]:
+                                 (3, ("wiring", good, 0)), (3, ["wiring", good]), (3, ("Wiring", good)), (3, good),
+                                 (3, None)]:
             self.assertIs(is_wiring_paper(TWO, registers, value), False, value)
         spans = Spans(3, {"a": (0, 2), "b": (1, 3)})
         self.assertEqual([spans.alive(slot) for slot in range(3)], [1, 2, 1])
         for registers, slots in ((0, (0, 1, 2)), (1, (1,)), (2, ())):
-            self.assertEqual(tuple(slot for slot in range(-3, 6) if is_wiring_paper(spans, registers, ("alive", slot))), slots)
+            self.assertEqual(tuple(slot for slot in range(-3, 6) if is_wiring_paper(spans, registers, ("alive", slot))),
+                             slots)
         for wrong in (True, None, "1", (1,), [1], 4, -2, 10 ** 39, *all_kinds()):
             self.assertIs(is_wiring_paper(spans, 1, ("alive", wrong)), False, wrong)
             self.assertIs(is_wiring_paper(spans, 1, wrong), False, wrong)

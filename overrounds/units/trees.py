@@ -1,6 +1,6 @@
 """Trees of cases, which show that an interval has no plan."""
 
-from overrounds.base.numbers import check_interval, is_between, is_name
+from overrounds.base.numbers import check_interval, is_between
 from overrounds.errors import InvalidArgument, TooMany
 from overrounds.loop.loops import check_loop
 from overrounds.plan.machines import check_machine
@@ -111,7 +111,7 @@ def _is_right(loop, machine, interval, slots, value):
 def _is_crowded(loop, machine, interval, slots, place):
     """Whether the told operations ask for the unit at the slot more often than it is there."""
     unit, slot = place
-    if not is_name(unit) or unit not in machine or not is_between(slot, 0, interval - 1):
+    if unit not in machine or not is_between(slot, 0, interval - 1):
         return False
     return times_asked(loop, interval, slots).get((unit, slot), 0) > machine[unit]
 

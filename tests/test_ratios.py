@@ -217,6 +217,22 @@ class Unrolled(unittest.TestCase):
                 equal = [copies for copies in range(1, 25) if unrolled_interval(loop, copies) == copies * most]
                 self.assertEqual(equal, [copies for copies in range(1, 25) if copies % best_copies(loop) == 0])
 
+    def test_what_is_not_so(self):
+        means = [Fraction(unrolled_interval(ROUND, copies), copies) for copies in (1, 2, 3)]
+        self.assertEqual(means, [3, Fraction(5, 2), Fraction(8, 3)])
+        # Here no arc has slack 0 at the least interval, and yet all are in the ring with the greatest ratio.
+        self.assertEqual((slacks(ROUND, free_interval(ROUND)), critical(ROUND)), ((1, 1, 1), (0, 1, 2)))
+
+    def test_tight_arcs_are_critical_ones_if_the_ratio_is_the_interval(self):
+        seen = 0
+        for loop in LOOPS:
+            interval = free_interval(loop)
+            if ratio(loop) == (interval, 1):
+                seen += 1
+                self.assertEqual(tuple(at for at, left in enumerate(slacks(loop, interval)) if left == 0),
+                                 critical(loop))
+        self.assertGreater(seen, 20)
+
     def test_many_copies(self):
         self.assertEqual(unrolled_interval(ROUND, 10 ** 6), 2500000)
         self.assertEqual(unrolled_interval(ROUND, 10 ** 6 - 1), 2499998)

@@ -1,12 +1,13 @@
 """overrounds.units.trees: circuits by told slots, and trees of cases."""
 
 import unittest
+from itertools import permutations
 from random import Random
 
 from overrounds.errors import InvalidArgument, InvalidLoop, InvalidMachine, InvalidNumber, TooMany
 from overrounds.loop.loops import Loop, Operation
 from overrounds.plan.machines import Machine
-from overrounds.plan.plans import is_fitting, is_plan
+from overrounds.plan.plans import is_fitting, is_plan, times_asked
 from overrounds.rings.ratios import unrolled
 from overrounds.units import trees
 from overrounds.units.trees import (has_plan, interval_paper, is_interval_paper, is_slots_paper, need, slots_paper)
@@ -28,6 +29,19 @@ def slow_has_plan(loop, machine, interval):
         if kind == "starts" and is_plan(loop, machine, interval, starts):
             return True
     return False
+
+
+def slow_tree(loop, machine, interval, order, slots):
+    """A tree that splits the operations in this order, each for all slots."""
+    for (unit, slot), many in times_asked(loop, interval, slots).items():
+        if many > machine[unit]:
+            return ("unit", unit, slot)
+    kind, found = slots_paper(loop, interval, slots)
+    if kind == "circuit":
+        return (kind, found)
+    name = order[len(slots)]
+    return ("split", name, tuple(slow_tree(loop, machine, interval, order, {**slots, name: slot})
+                                 for slot in range(interval)))
 
 
 def some_circuits(loop, draw):
@@ -347,6 +361,23 @@ def changed_leaves(tree):
 
 
 class Papers(unittest.TestCase):
+    def test_trees_that_split_in_any_order(self):
+        seen = 0
+        for loop in LOOPS:
+            machine = machine_for(loop)
+            for interval in (2, 3):
+                if len(loop.asking) < 2 or has_plan(loop, machine, interval):
+                    continue
+                for order in permutations(loop.asking):
+                    tree = slow_tree(loop, machine, interval, order, {})
+                    self.assertIs(is_interval_paper(loop, machine, interval, ("tree", tree)), True)
+                    self.assertIs(is_interval_paper(loop, machine, 4 * len(loop), ("tree", tree)), False)
+                    if tree[0] == "split":
+                        seen += 1
+                        first = (*tree[:2], tree[2][:1])
+                        self.assertIs(is_interval_paper(loop, machine, interval, ("tree", first)), True)
+        self.assertGreater(seen, 50)
+
     def test_against_all_slots_tried(self):
         draw, kinds = Random(7), {"plan": 0, "tree": 0}
         for loop in LOOPS[::2]:

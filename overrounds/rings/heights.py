@@ -27,8 +27,8 @@ def lifted(rows, heights):
     """
     found = dict(heights)
     last = {}
-    # Without such a ring only rows of different names raise one another, so
-    # one pass less than there are names is enough.
+    # Without such a ring each height comes from some first one through each
+    # name at most once, and so all come to rest within as many passes as names.
     for _ in range(len(found) + 1):
         raised = None
         for index, (source, target, weight) in enumerate(rows):

@@ -4,7 +4,8 @@ from inspect import isgenerator
 from itertools import permutations, product
 from random import Random
 
-from overrounds.errors import InvalidLoop, InvalidNumber, RoundError, TooMany, UnknownName
+from overrounds.errors import Broken, InvalidLoop, InvalidNumber, NothingToUndo, RoundError, TooMany, UnknownName
+from overrounds.file.spans import Spans
 from overrounds.loop.loops import Loop, Operation
 from overrounds.plan.machines import Machine
 
@@ -108,7 +109,7 @@ def error_of(call, *told, **keywords):
         value = call(*told, **keywords)
         if isgenerator(value):
             list(value)
-    except (RoundError, UnknownName, InvalidNumber, TooMany) as error:
+    except (RoundError, UnknownName, InvalidNumber, TooMany, NothingToUndo, Broken) as error:
         return type(error), error
     return None, value
 
@@ -186,3 +187,8 @@ def some_rows(seed, most=8, letters="abcdefgh"):
         begin = draw.randint(-9, 9)
         rows[name] = (begin, begin + draw.randint(1, draw.choice((interval, interval, 2 * interval, 8 * interval))))
     return interval, rows
+
+
+def some_spans(first, many, most=8):
+    """So many spans of `some_rows`."""
+    return [Spans(*some_rows(seed, most)) for seed in range(first, first + many)]

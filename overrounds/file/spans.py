@@ -3,7 +3,7 @@
 from overrounds.base.numbers import check_integer, check_interval, is_integer, is_name, times_alive
 from overrounds.errors import InvalidArgument, InvalidSpans, TooMany, UnknownName
 from overrounds.loop.loops import check_loop
-from overrounds.loop.rows import ascends
+from overrounds.loop.rows import ascends, parts_of
 from overrounds.plan.plans import check_starts, is_fitting
 
 MAX_VALUES = 8
@@ -24,14 +24,6 @@ def _are_rows(interval, value):
     if not isinstance(value, dict) or not 1 <= len(value) <= MAX_VALUES:
         return False
     return all([is_name(name) and _is_span(interval, value[name]) for name in value])
-
-
-def _parts_of(names):
-    """All ascending tuples of some of the ascending names."""
-    parts = [()]
-    for name in names:
-        parts = parts + [(*part, name) for part in parts]
-    return parts
 
 
 class Spans:
@@ -145,7 +137,7 @@ class Spans:
     def _found_pieces(self):
         # If names are apart, all others are, too; so those without the first
         # name are enough to tell all pieces.
-        apart = [part for part in _parts_of(self._names[1:]) if self.is_apart(*part)]
+        apart = [part for part in parts_of(self._names[1:]) if self.is_apart(*part)]
         sides = {name: [name in part for part in apart] for name in self._names}
         return tuple(sorted({tuple([other for other in self._names if sides[other] == sides[name]])
                              for name in self._names}))
@@ -212,19 +204,35 @@ def check_spans(value):
         raise InvalidSpans(value)
 
 
-def spans_of(loop, interval, starts):
-    """The spans of the values of a loop."""
-    check_loop(loop)
-    check_interval(interval)
-    check_starts(loop, starts)
-    if not is_fitting(loop, interval, starts):
-        raise InvalidArgument(starts)
+def span_rows(loop, interval, starts):
+    """The dict from all names to the spans of their values, however long they are."""
     rows = {}
     for one in loop.operations:
         begin = starts[one.name] + one.ticks
         # The value of a round is read so many rounds later as the distance tells.
         read = [starts[reader] + interval * distance for name, reader, distance in loop.readings if name == one.name]
         rows[one.name] = (begin, max(read, default=begin) + 1)
-    if any([end - begin > MAX_LIFE * interval for begin, end in rows.values()]):
+    return rows
+
+
+def are_short(interval, rows):
+    """Whether no span is longer than spans can be."""
+    return all([end - begin <= MAX_LIFE * interval for begin, end in rows.values()])
+
+
+def check_fitting(loop, interval, starts):
+    """Raise an error unless the starts are starts of the loop and fit it."""
+    check_loop(loop)
+    check_interval(interval)
+    check_starts(loop, starts)
+    if not is_fitting(loop, interval, starts):
+        raise InvalidArgument(starts)
+
+
+def spans_of(loop, interval, starts):
+    """The spans of the values of a loop."""
+    check_fitting(loop, interval, starts)
+    rows = span_rows(loop, interval, starts)
+    if not are_short(interval, rows):
         raise TooMany(MAX_LIFE)
     return Spans(interval, rows)

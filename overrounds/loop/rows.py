@@ -25,9 +25,24 @@ def is_row_of_pairs(value, most, highest):
     return all([is_pair(item, highest) for item in value])
 
 
+def is_table(names, value, low, high):
+    """Whether the value is a dict from just these names to integers from `low` to `high`."""
+    if not isinstance(value, dict) or len(value) != len(names):
+        return False
+    return all([name in value and is_between(value[name], low, high) for name in names])
+
+
 def first_items(rows):
     """The ascending tuple of the first items of some tuples, each once."""
     return tuple(sorted({row[0] for row in rows}))
+
+
+def parts_of(names):
+    """All ascending tuples of some of the ascending names."""
+    parts = [()]
+    for name in names:
+        parts = parts + [(*part, name) for part in parts]
+    return parts
 
 
 def is_ring(arcs, value):

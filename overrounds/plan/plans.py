@@ -1,8 +1,9 @@
 """Starts of a loop, what they ask of a machine, and plans."""
 
-from overrounds.base.numbers import check_between, check_integer, check_interval, is_between, rounded_up
+from overrounds.base.numbers import check_between, check_integer, check_interval, rounded_up
 from overrounds.errors import InvalidArgument, UnknownName
 from overrounds.loop.loops import MAX_ROUNDS, check_loop
+from overrounds.loop.rows import is_table
 from overrounds.plan.machines import check_machine
 
 MAX_START = 10 ** 6
@@ -11,9 +12,7 @@ MAX_START = 10 ** 6
 def is_starts(loop, value):
     """Whether the value is starts of the loop."""
     check_loop(loop)
-    if not isinstance(value, dict) or len(value) != len(loop.names):
-        return False
-    return all([name in value and is_between(value[name], 0, MAX_START) for name in loop.names])
+    return is_table(loop.names, value, 0, MAX_START)
 
 
 def check_starts(loop, value):

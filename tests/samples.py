@@ -4,10 +4,13 @@ from inspect import isgenerator
 from itertools import permutations, product
 from random import Random
 
+from overrounds.code.kernels import kernel_of
 from overrounds.errors import Broken, InvalidLoop, InvalidNumber, NothingToUndo, RoundError, TooMany, UnknownName
-from overrounds.file.spans import Spans
+from overrounds.file.spans import Spans, spans_of
+from overrounds.file.turning import least_turning, turning_paper
 from overrounds.loop.loops import Loop, Operation
 from overrounds.plan.machines import Machine
+from overrounds.rings.starts import free_interval, least_starts
 
 SUM = Loop(Operation("item", uses=(("mem", 0),)),
            Operation("sum", ticks=2, reads=(("sum", 1), ("item", 0)), uses=(("add", 0), ("add", 1))))
@@ -192,3 +195,59 @@ def some_rows(seed, most=8, letters="abcdefgh"):
 def some_spans(first, many, most=8):
     """So many spans of `some_rows`."""
     return [Spans(*some_rows(seed, most)) for seed in range(first, first + many)]
+
+
+def slow_run(kernel, rounds):
+    """All readings (tick, name, round, index, what it finds) of a run, by a file that is written tick by tick."""
+    writings, readings = {}, {}
+    for slot, row in enumerate(kernel.rows):
+        for name, stage, target, sources in row:
+            for turn in range(-3, rounds):
+                tick = slot + kernel.interval * (turn + stage)
+                there = tick + kernel.loop[name].ticks
+                writings.setdefault(there, []).append((name, turn, (target + turn + stage) % kernel.registers))
+                if turn >= 0:
+                    places = [(place + turn + stage) % kernel.registers for place in sources]
+                    readings.setdefault(tick, []).append((name, turn, places))
+    file, found = [None] * kernel.registers, []
+    for tick in sorted({*writings, *readings}):
+        for name, turn, place in sorted(writings.get(tick, ())):
+            file[place] = (name, turn)
+        for name, turn, places in sorted(readings.get(tick, ())):
+            found += [(tick, name, turn, index, file[place]) for index, place in enumerate(places)]
+    return found
+
+
+def slow_wrong(kernel, rounds):
+    """All wrong readings of a run."""
+    wrong = []
+    for tick, name, turn, index, value in slow_run(kernel, rounds):
+        source, distance = kernel.loop[name].reads[index]
+        if value != (source, turn - distance):
+            wrong.append((tick, name, turn, index, value))
+    return wrong
+
+
+def some_kernels(seed, many):
+    """Kernels of drawn starts and bases, most of them wrong."""
+    draw, kernels = Random(seed), []
+    loops = some_loops(200, seed)
+    for _ in range(many):
+        loop, interval, registers = draw.choice(loops), draw.randint(1, 5), draw.randint(1, 8)
+        highest = draw.choice((interval, 3 * interval, 6 * interval))
+        starts = {name: draw.randint(0, highest) for name in loop}
+        kernels.append(kernel_of(loop, interval, starts, registers,
+                                 {name: draw.randint(0, registers - 1) for name in loop}))
+    return kernels
+
+
+def right_kernels(seed, many):
+    """Kernels of starts that fit and of bases."""
+    draw, kernels = Random(seed), []
+    for loop in some_loops(many, seed):
+        interval = free_interval(loop) + draw.choice((0, 0, 1, 3))
+        starts = least_starts(loop, interval)
+        spans = spans_of(loop, interval, starts)
+        registers = least_turning(spans) + draw.choice((0, 0, 1))
+        kernels.append(kernel_of(loop, interval, starts, registers, turning_paper(spans, registers)[1]))
+    return kernels

@@ -37,20 +37,22 @@ def is_start_paper(loop, interval, value):
     return value[0] == "ring" and is_long_ring(loop, interval, value[1])
 
 
+def check_fits(loop, interval):
+    """Raise InvalidArgument if no starts fit the loop."""
+    if start_paper(loop, interval)[0] == "ring":
+        raise InvalidArgument(interval)
+
+
 def least_starts(loop, interval):
     """The starts that fit the loop of which none is greater than in any other ones."""
-    kind, starts = start_paper(loop, interval)
-    if kind == "ring":
-        raise InvalidArgument(interval)
-    return starts
+    check_fits(loop, interval)
+    return start_paper(loop, interval)[1]
 
 
 def _longest_gaps(loop, interval):
     """The greatest weights between all names; InvalidArgument if no starts fit."""
-    rows = fitting_rows(loop, interval)
-    if lifted(rows, low(loop.names))[0] is None:
-        raise InvalidArgument(interval)
-    return longest(loop.names, rows)
+    check_fits(loop, interval)
+    return longest(loop.names, fitting_rows(loop, interval))
 
 
 def gap(loop, interval, source, target):

@@ -1,0 +1,1 @@
+"""Kernels: the code of a plan, and whether it does what the loop does."""

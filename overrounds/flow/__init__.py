@@ -1,0 +1,1 @@
+"""Sums of spans, and flows that bound them."""

@@ -15,7 +15,7 @@ rstrip setdefault split splitlines startswith strip update upper values zfill bi
 BARRED_NAMES = {"mro", "elements", "open", "input", "law", "version_info", "register", "typing", "enum", "dataclass",
                 "overload", "product", "combinations", "permutations", "type", "chr", "globals", "locals", "eval"}
 DOUBLE = {"__init__", "__eq__", "__str__", "__len__", "__iter__", "__getitem__", "__contains__", "__add__", "__and__",
-          "__or__"}
+          "__or__", "__iadd__", "__isub__", "__enter__", "__exit__"}
 CHANGING = {"append", "clear", "extend", "insert", "pop", "remove", "reverse", "setdefault", "update"}
 
 
@@ -162,7 +162,7 @@ class Files(unittest.TestCase):
                     self.assertIn(node, places, (path, ast.unparse(node)))
 
     def test_statements_and_strings(self):
-        barred = (ast.AugAssign, ast.Global, ast.Nonlocal, ast.Try, ast.With, ast.Match, ast.Lambda, ast.GeneratorExp,
+        barred = (ast.AugAssign, ast.Global, ast.Nonlocal, ast.Try, ast.Match, ast.Lambda, ast.GeneratorExp,
                   ast.NamedExpr, ast.AnnAssign)
         for path, tree in all_trees():
             for node in ast.walk(tree):
@@ -172,12 +172,17 @@ class Files(unittest.TestCase):
                     self.assertNotIn("__", node.value, path)
                 if isinstance(node, ast.Raise):
                     self.assertIsInstance(node.exc, ast.Call, path)
+                if isinstance(node, ast.With):
+                    self.assertEqual(len(node.items), 1)
+                    self.assertIsInstance(node.items[0].context_expr, ast.Call, path)
+                    self.assertIsInstance(node.items[0].optional_vars, ast.Name, path)
                 if isinstance(node, (ast.For, ast.comprehension)):
                     self.assertNotIsInstance(node.iter, (ast.Set, ast.SetComp), path)
 
     def test_classes(self):
         for path, tree in all_trees():
             for cls in [node for node in tree.body if isinstance(node, ast.ClassDef)]:
+                self.assertFalse(cls.name.startswith("_"), path)
                 methods = {node.name: node for node in cls.body if isinstance(node, ast.FunctionDef)}
                 if "__getitem__" in methods:
                     self.assertIn("__iter__", methods)
@@ -191,8 +196,18 @@ class Files(unittest.TestCase):
                         self.assertTrue(ast.unparse(node.body[0]).startswith(first))
                     if name in ("__len__", "__str__", "__iter__"):
                         self.assertFalse([one for one in ast.walk(node) if isinstance(one, ast.Assign)], path)
-                    if (name.startswith("__") and name != "__init__") or "property" in kinds:
+                    if name == "__exit__":
+                        self.assert_only_gives_back(node)
+                    elif (name.startswith("__") and name not in ("__init__", "__enter__")) or "property" in kinds:
                         self.assert_changes_nothing(path, node)
+
+    def assert_only_gives_back(self, method):
+        self.assertEqual([one.arg for one in method.args.args], ["self", "kind", "value", "trace"])
+        for node in method.body:
+            self.assertIsInstance(node, ast.Assign)
+            self.assertEqual(len(node.targets), 1)
+            for side in (node.targets[0], node.value):
+                self.assertRegex(ast.unparse(side), r"^[a-z]+([.][a-z_]+)?$")
 
     def assert_changes_nothing(self, path, method):
         # What an operator or a property keeps for itself are plain local names and dicts that it made.
@@ -201,7 +216,8 @@ class Files(unittest.TestCase):
                 self.assertNotIn(node.func.attr, CHANGING, (path, method.name))
             if isinstance(node, ast.Attribute) and isinstance(node.ctx, ast.Store):
                 self.assertIn((method.name, ast.unparse(node)),
-                              [("__add__", "machine._units"), ("pieces", "self._pieces")])
+                              [("__add__", "machine._units"), ("pieces", "self._pieces"),
+                               ("least", "self._kept_least"), ("registers", "self._kept_registers")])
 
 
 if __name__ == "__main__":

@@ -5,7 +5,7 @@ from overrounds.errors import InvalidArgument, TooMany
 from overrounds.loop.loops import check_loop
 from overrounds.plan.machines import check_machine
 from overrounds.plan.plans import check_units, is_fitting, is_plan, times_asked
-from overrounds.units.ways import Ways, is_circuit, is_told, need_of
+from overrounds.units.ways import is_circuit, is_told, need_of, ways_of
 
 MAX_ASKING = 4
 
@@ -28,7 +28,7 @@ def need(loop, interval, slots, circuit):
 def slots_paper(loop, interval, slots):
     """("starts", starts) with the told slots, or ("circuit", circuit) that gains."""
     _check_told(loop, interval, slots)
-    return Ways(loop, interval).paper(slots)
+    return ways_of(loop, interval).paper(slots)
 
 
 def is_slots_paper(loop, interval, slots, value):
@@ -56,7 +56,8 @@ def check_asking(loop):
         raise TooMany(MAX_ASKING)
 
 
-def _check_all(loop, machine, interval):
+def check_all(loop, machine, interval):
+    """Raise an error unless they are a loop, a machine with its units and an interval."""
     check_loop(loop)
     check_machine(machine)
     check_interval(interval)
@@ -65,9 +66,9 @@ def _check_all(loop, machine, interval):
 
 def interval_paper(loop, machine, interval):
     """("plan", starts), or ("tree", tree) that shows that there is no plan."""
-    _check_all(loop, machine, interval)
+    check_all(loop, machine, interval)
     check_asking(loop)
-    return _paper_below(loop, machine, interval, Ways(loop, interval), {})
+    return _paper_below(loop, machine, interval, ways_of(loop, interval), {})
 
 
 def _paper_below(loop, machine, interval, ways, slots):
@@ -128,7 +129,7 @@ def _is_split(loop, machine, interval, slots, parts):
 
 def is_interval_paper(loop, machine, interval, value):
     """Whether the value is a paper of `interval_paper`."""
-    _check_all(loop, machine, interval)
+    check_all(loop, machine, interval)
     if not isinstance(value, tuple) or len(value) != 2:
         return False
     if value[0] == "plan":

@@ -46,15 +46,19 @@ def need_of(loop, interval, slots, circuit):
 
 
 class Ways:
-    """What the arcs of a loop ask of starts with an interval, for any told slots."""
+    """What rows, such as those of the arcs of a loop, ask of heights, for any told slots of an interval."""
 
-    def __init__(self, loop, interval):
+    def __init__(self, names, rows, interval):
         self._turn = interval
-        self._arc_rows = fitting_rows(loop, interval)
-        self._lows, self._long_ring = lifted(self._arc_rows, low(loop.names))
+        self._all_rows = rows
+        self._lows, self._long_ring = lifted(rows, low(names))
         self._best = {}
         if self._long_ring is None:
-            self._best = longest(loop.names, self._arc_rows)
+            self._best = longest(names, rows)
+
+    def leeway_between(self, one, other):
+        """By how much the height of the other can change while that of the one stays; rows bound it both ways."""
+        return -self._best[one, other][0] - self._best[other, one][0]
 
     def _told_rows(self, slots):
         """The rows between operations with told slots, rounded up, and the arcs of each."""
@@ -68,7 +72,7 @@ class Ways:
         return rows, ways
 
     def paper(self, slots):
-        """("starts", starts) with the told slots, or ("circuit", circuit) that gains."""
+        """("starts", heights) with the told slots, or ("circuit", indices of rows) that gains."""
         # Rounding only adds to what a ring needs.
         if self._long_ring is not None:
             return ("circuit", self._long_ring)
@@ -79,4 +83,9 @@ class Ways:
             return ("circuit", tuple([index for at in ring for index in ways[at]]))
         # The told ones stay: what leads from one of them to another one
         # through any others is already among the rows between them.
-        return ("starts", lifted(self._arc_rows, {**self._lows, **told})[0])
+        return ("starts", lifted(self._all_rows, {**self._lows, **told})[0])
+
+
+def ways_of(loop, interval):
+    """What the arcs of a loop ask of starts with an interval."""
+    return Ways(loop.names, fitting_rows(loop, interval), interval)

@@ -1,0 +1,1 @@
+"""Changes of loops and machines, and what they keep."""

@@ -1,0 +1,1 @@
+"""A desk: a loop and a machine under changes."""

@@ -1,0 +1,1 @@
+"""Texts of loops, machines, plans, trees, spans and bases."""

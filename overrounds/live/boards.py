@@ -19,15 +19,14 @@ def is_pin(loop, value):
 
 
 class Board:
-    """A loop, a machine, a plan for them or none, and pins. It never changes."""
+    """A loop, a machine, a plan for them or None, and pins. It never changes."""
 
-    def __init__(self, loop, machine, interval, starts, pins):
+    def __init__(self, loop, machine, plan, pins):
         self._loop = loop
         self._machine = machine
-        self._names = loop.names
-        self._interval = interval
-        self._starts = None if starts is None else {name: starts[name] for name in loop.names}
+        self._plan = plan
         self._pins = pins
+        self._names = loop.names
         self._kept_least = None
         self._kept_registers = None
 
@@ -40,14 +39,8 @@ class Board:
         return self._machine
 
     @property
-    def interval(self):
-        """The interval of the plan, or None."""
-        return self._interval
-
-    @property
-    def starts(self):
-        """The starts of the plan, or None."""
-        return None if self._starts is None else dict(self._starts)
+    def plan(self):
+        return self._plan
 
     @property
     def pins(self):
@@ -68,12 +61,12 @@ class Board:
         return self._kept_registers
 
     def _found_registers(self):
-        if self._starts is None:
+        if self._plan is None:
             return None
-        rows = span_rows(self._loop, self._interval, self._starts)
-        if not are_short(self._interval, rows):
+        rows = span_rows(self._loop, self._plan.interval, self._plan.starts)
+        if not are_short(self._plan.interval, rows):
             return None
-        return least_turning(Spans(self._interval, rows))
+        return least_turning(Spans(self._plan.interval, rows))
 
     def has_pin(self, value):
         """Whether the value is a pin that is there."""
@@ -86,7 +79,7 @@ class Board:
             return self.least <= pin[1]
         if pin[0] == "registers":
             return self.registers is not None and self.registers <= pin[1]
-        return self._starts is not None and self._starts.get(pin[1], -1) == pin[2]
+        return self._plan is not None and self._plan.starts.get(pin[1], -1) == pin[2]
 
     def first_broken(self):
         """The first pin that does not hold, or None."""
@@ -97,5 +90,4 @@ class Board:
 
     def __eq__(self, other):
         return (isinstance(other, Board) and self._loop == other._loop and self._machine == other._machine
-                and self._interval == other._interval and self._starts == other._starts
-                and self._pins == other._pins)
+                and self._plan == other._plan and self._pins == other._pins)

@@ -1,6 +1,6 @@
 """A desk, on which a loop and a machine are changed while pins hold."""
 
-from overrounds.base.numbers import check_between, check_integer, check_interval, is_integer
+from overrounds.base.numbers import check_between, check_integer, is_integer
 from overrounds.change.changes import (check_operation, with_operation, with_order, with_unit, without_operation,
                                        without_order)
 from overrounds.errors import Broken, InvalidArgument, InvalidNumber, NothingToUndo, TooMany, UnknownName
@@ -27,7 +27,7 @@ class Desk:
 
     def __init__(self, loop, machine):
         _check_parts(loop, machine)
-        self._now = Board(loop, machine, None, None, ())
+        self._now = Board(loop, machine, None, ())
         # The boards ahead of the calls that can be taken back.
         self._past = ()
 
@@ -42,12 +42,12 @@ class Desk:
     @property
     def interval(self):
         """The interval of the plan, or None."""
-        return self._now.interval
+        return None if self._now.plan is None else self._now.plan.interval
 
     @property
     def starts(self):
         """The starts of the plan, or None."""
-        return self._now.starts
+        return None if self._now.plan is None else self._now.plan.starts
 
     @property
     def least(self):
@@ -98,10 +98,10 @@ class Desk:
     def _change(self, loop, machine, starts):
         """Go on with a loop and a machine, and with the starts if they are a plan of them."""
         _check_parts(loop, machine)
+        plan = None
         if starts is not None and is_plan(loop, machine, self.interval, starts):
-            self._go_on(Board(loop, machine, self.interval, starts, self.pins))
-        else:
-            self._go_on(Board(loop, machine, None, None, self.pins))
+            plan = Plan(loop, machine, self.interval, starts)
+        self._go_on(Board(loop, machine, plan, self.pins))
 
     def _go_on(self, board):
         """Go on with another board, if all its pins hold."""
@@ -110,6 +110,14 @@ class Desk:
             raise Broken(pin[0], pin)
         self._past = (*self._past, self._now)
         self._now = board
+
+    def _planned(self, plan):
+        """Go on with another plan, or with None."""
+        self._go_on(Board(self.loop, self.machine, plan, self.pins))
+
+    def _pinned(self, pins):
+        """Go on with other pins."""
+        self._go_on(Board(self.loop, self.machine, self._now.plan, pins))
 
     def __iadd__(self, other):
         self.put(other)
@@ -121,32 +129,29 @@ class Desk:
 
     def take(self, interval, starts):
         """Take a plan."""
-        check_interval(interval)
-        if not is_plan(self.loop, self.machine, interval, starts):
-            raise InvalidArgument(starts)
-        self._go_on(Board(self.loop, self.machine, interval, starts, self.pins))
+        self._planned(Plan(self.loop, self.machine, interval, starts))
 
     def clear(self):
         """Take away the plan."""
-        self._go_on(Board(self.loop, self.machine, None, None, self.pins))
+        self._planned(None)
 
     def move(self, name, tick):
         """Give an operation another start."""
         if name not in self.loop.names:
             raise UnknownName(name)
         check_integer(tick)
-        starts = self.starts
-        if starts is None:
-            raise InvalidArgument(name)
-        starts[name] = tick
-        self.take(self.interval, starts)
+        plan = self._plan_now()
+        self.take(plan.interval, {**plan.starts, name: tick})
 
     def press(self):
         """Take the earliest plan with the same slots."""
-        if self.starts is None:
+        self._planned(self._plan_now().earliest())
+
+    def _plan_now(self):
+        """The plan; InvalidArgument if there is none."""
+        if self._now.plan is None:
             raise InvalidArgument(None)
-        plan = Plan(self.loop, self.machine, self.interval, self.starts)
-        self.take(self.interval, plan.earliest().starts)
+        return self._now.plan
 
     def pin(self, pin):
         """Let a pin hold from now on."""
@@ -155,14 +160,13 @@ class Desk:
         pins = self.pins if pin in self.pins else tuple(sorted([*self.pins, pin]))
         if len(pins) > MAX_PINS:
             raise TooMany(MAX_PINS)
-        self._go_on(Board(self.loop, self.machine, self.interval, self.starts, pins))
+        self._pinned(pins)
 
     def unpin(self, pin):
         """Take away a pin."""
         if not self._now.has_pin(pin):
             raise InvalidArgument(pin)
-        pins = tuple([one for one in self.pins if one != pin])
-        self._go_on(Board(self.loop, self.machine, self.interval, self.starts, pins))
+        self._pinned(tuple([one for one in self.pins if one != pin]))
 
     def undo(self, *, many=1):
         """Take back so many calls; how many are left."""

@@ -243,7 +243,8 @@ class Easier(unittest.TestCase):
         self.assertIs(is_easier(Loop(Operation("a")), P, EIGHT, P), False)
         using, free = Loop(Operation("a", uses=(("p", 0),))), Loop(Operation("a"))
         two = Machine(p=2)
-        for told, wanted in (((using, P, using, P), True), ((using, P, using, two), False), ((using, two, using, P), True),
+        for told, wanted in (((using, P, using, P), True), ((using, P, using, two), False),
+                             ((using, two, using, P), True),
                              ((free, P, using, two), True), ((free, Machine(), using, P), True),
                              ((using, P, free, P), False), ((using, Machine(), using, Machine(q=1)), True),
                              ((using, Machine(), using, P), False), ((using, P, using, Machine()), True)):
@@ -307,7 +308,8 @@ class Given(unittest.TestCase):
                 self.assertIs(is_fewest_moved(loop, machine, interval, given, ()), False)
                 continue
             parts = [part for many in range(len(names) + 1) for part in combinations(names, many)]
-            good = [part for part in parts if slow_completed(loop, machine, interval, {name: given[name] for name in given
+            good = [part for part in parts if slow_completed(loop, machine, interval,
+                                                             {name: given[name] for name in given
                                                                                        if name not in part})]
             least = [part for part in good if len(part) == len(good[0])]
             self.assertIn(moved, least)
@@ -329,7 +331,8 @@ class Given(unittest.TestCase):
                           if is_fewest_moved(three, P, 3, same, part)], [("a", "b"), ("a", "c"), ("b", "c")])
 
     def test_bounds_of_starts(self):
-        loop = Loop(Operation("a"), Operation("b", reads=(("a", 0),), uses=(("p", 0),)), Operation("c", uses=(("p", 0),)))
+        loop = Loop(Operation("a"), Operation("b", reads=(("a", 0),), uses=(("p", 0),)),
+                    Operation("c", uses=(("p", 0),)))
         self.assertEqual(completed(loop, P, 2, {"a": 10 ** 6 - 1})["b"], 10 ** 6)
         self.assertIsNone(completed(loop, P, 2, {"a": 10 ** 6}))
         self.assertIsNone(completed(loop, P, 2, {"b": 0}))
@@ -358,7 +361,8 @@ class Given(unittest.TestCase):
                                                                                   ("a", "h"), ("g",), ("h",)])
 
     def test_what_are_no_given_starts(self):
-        for wrong in [{"x": 0}, {"u": -1}, {"u": 10 ** 6 + 1}, {"u": True}, {"u": None}, {"u": "0"}, {"u": (0,)}, {1: 0},
+        for wrong in [{"x": 0}, {"u": -1}, {"u": 10 ** 6 + 1}, {"u": True}, {"u": None}, {"u": "0"}, {"u": (0,)},
+                      {1: 0},
                       {("u",): 0}, {None: 0}, [("u", 0)], ("u",), None, "u", P,
                       *[one for one in all_kinds() if one != {}]]:
             for call in (completed, fewest_moved, lambda *told: is_fewest_moved(*told, None)):

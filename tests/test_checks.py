@@ -63,7 +63,8 @@ class Readings(unittest.TestCase):
                       (tick, name, False, 1, found), (tick, name, 0, 0, found), (tick, name, 0, 2, found),
                       (tick, name, 0, -1, found), (tick, name, 0, True, found), (*good[:4], None),
                       (*good[:4], ("item", 0)), (*good[:4], ["sum", -1]), (*good[:4], ("sum", -2)),
-                      (*good[:4], ("sum",)), (*good[:4], "sum"), list(good), good[:4], (*good, 0), (tick, None, 0, 1, found),
+                      (*good[:4], ("sum",)), (*good[:4], "sum"), list(good), good[:4], (*good, 0),
+                      (tick, None, 0, 1, found),
                       (tick, ["sum"], 0, 1, found), (tick, name, None, 1, found), (10 ** 39, *good[1:]), None,
                       *all_kinds()]:
             self.assertIs(is_wrong_reading(BAD, 1, wrong), False, wrong)

@@ -75,7 +75,8 @@ class Made(unittest.TestCase):
         self.assertEqual(list(desk.starts), ["u", "v"])
 
     def test_wide_loops(self):
-        loop = unrolled(Loop(Operation("a"), Operation("b"), orders=tuple(("a", "b", delay, 1) for delay in range(5))), 3)
+        loop = unrolled(Loop(Operation("a"), Operation("b"), orders=tuple(("a", "b", delay, 1) for delay in range(5))),
+                        3)
         desk = Desk(loop, Machine())
         desk.unit("p", 1)
         self.assertEqual((desk.least, desk.loop), (1, loop))
@@ -276,8 +277,10 @@ class Pins(unittest.TestCase):
 
     def test_what_is_no_pin(self):
         desk = planned([("interval", 3)])
-        for wrong in [("interval",), ("interval", 3, 0), ["interval", 3], ("Interval", 3), ("start", "u"), ("start", 0, "u"),
-                      ("start", ["u"], 0), ("start", None, 0), (None, 3), "interval", ("interval", "3"), ("interval", None),
+        for wrong in [("interval",), ("interval", 3, 0), ["interval", 3], ("Interval", 3), ("start", "u"),
+                      ("start", 0, "u"),
+                      ("start", ["u"], 0), ("start", None, 0), (None, 3), "interval", ("interval", "3"),
+                      ("interval", None),
                       (("interval", 3),), {"interval": 3}, *all_kinds()]:
             self.assertIs(error_of(desk.pin, wrong)[0], InvalidArgument, wrong)
             self.assertIs(error_of(desk.unpin, wrong)[0], InvalidArgument, wrong)
@@ -407,7 +410,8 @@ class Undo(unittest.TestCase):
         desk = Desk(MEET, P)
         calls = [lambda: desk.take(3, {"u": 3, "v": 4}), lambda: desk.press(), lambda: desk.pin(("interval", 3)),
                  lambda: desk.pin(("interval", 3)), lambda: desk.put(Operation("w")), lambda: desk.drop("w"),
-                 lambda: desk.order(("u", "v", 0, 0)), lambda: desk.order(("u", "v", 0, 0)), lambda: desk.lift(("u", "v", 0, 0)),
+                 lambda: desk.order(("u", "v", 0, 0)), lambda: desk.order(("u", "v", 0, 0)),
+                 lambda: desk.lift(("u", "v", 0, 0)),
                  lambda: desk.unit("q", 2), lambda: desk.take(3, {"u": 0, "v": 1}), lambda: desk.move("u", 0),
                  lambda: desk.clear(), lambda: desk.unpin(("interval", 3))]
         states = [seen(desk)]
@@ -581,11 +585,13 @@ class Twins(unittest.TestCase):
 
     def test_in_len_str_and_iteration(self):
         desk = planned([("start", "u", 0)])
-        self.assertEqual([value in desk for value in ("u", "v", "w", "p", ("start", "u", 0), ("start", "v", 1), None, 0)],
+        self.assertEqual([value in desk for value in ("u", "v", "w", "p", ("start", "u", 0), ("start", "v", 1), None,
+                                                      0)],
                          [True, True, False, False, True, False, False, False])
         for wrong in all_kinds():
             self.assertIs(wrong in desk, False, wrong)
-        self.assertEqual((len(desk), str(desk), list(desk)), (2, "desk of 2 operations, interval 3, 1 pins", ["u", "v"]))
+        self.assertEqual((len(desk), str(desk), list(desk)),
+                         (2, "desk of 2 operations, interval 3, 1 pins", ["u", "v"]))
         desk.unpin(("start", "u", 0))
         desk.clear()
         self.assertEqual(str(desk), "desk of 2 operations, no plan, 0 pins")
@@ -602,20 +608,23 @@ class Model(unittest.TestCase):
             past = []
             for _ in range(40):
                 self.one_call(draw, desk, past, raised)
-        self.assertGreater(min(raised.get(kind, 0) for kind in (None, Broken, InvalidArgument, InvalidLoop)), 20, raised)
+        self.assertGreater(min(raised.get(kind, 0) for kind in (None, Broken, InvalidArgument, InvalidLoop)), 20,
+                           raised)
 
     def one_call(self, draw, desk, past, raised):
         before, count = seen(desk), len(desk)
         name = draw.choice(desk.loop.names)
         other = draw.choice(desk.loop.names)
         order = (name, other, draw.randint(0, 4), draw.randint(0, 3))
-        operation = Operation(draw.choice([name, "new"]), ticks=draw.randint(1, 2), reads=((other, draw.randint(0, 3)),),
+        operation = Operation(draw.choice([name, "new"]), ticks=draw.randint(1, 2),
+                              reads=((other, draw.randint(0, 3)),),
                               uses=tuple((unit, draw.randint(0, 3)) for unit in desk.loop.units[:1]))
         starts = desk.starts or {one: 0 for one in desk.loop}
         new = [lambda: desk.put(operation, start=draw.choice((None, 0, 5))), lambda: desk.drop(name),
                lambda: desk.order(order), lambda: desk.lift(draw.choice(desk.loop.orders or (order,))),
                lambda: desk.unit(draw.choice(desk.loop.units or ("p",)), draw.randint(1, 3)),
-               lambda: desk.take(desk.least, draw_plan(draw, desk.loop, desk.machine, desk.least)), lambda: desk.clear(),
+               lambda: desk.take(desk.least, draw_plan(draw, desk.loop, desk.machine, desk.least)),
+               lambda: desk.clear(),
                lambda: desk.move(name, starts[name] + draw.randint(-1, 2)), lambda: desk.press(),
                lambda: desk.pin(draw.choice([("interval", desk.least), ("start", name, starts[name]),
                                              ("registers", desk.registers or 3)])),

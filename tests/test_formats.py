@@ -27,7 +27,8 @@ order item sum 0 3
 order reads uses 4 0
 order sum item 2 1"""
 TWO = Spans(2, {"a": (0, 2), "b": (1, 3)})
-WRONG_WORDS = ("", "A", "a1", "abcdefghi", "+1", "01", "-0", "1.0", "1e3", "1_0", "0x1", "1234567890123", "-1234567890123",
+WRONG_WORDS = ("", "A", "a1", "abcdefghi", "+1", "01", "-0", "1.0", "1e3", "1_0", "0x1", "1234567890123",
+               "-1234567890123",
                "--1", "-", "1-", "00", "-01", "None", "True", "_", "1,", ",", ",1", "a,")
 PRINTED = "".join(chr(code) for code in range(32, 127)) + "\n"
 
@@ -122,7 +123,8 @@ class There(unittest.TestCase):
                     self.assertEqual(line_of(read, "\n".join(moved)), 0)
 
     def test_more_orders(self):
-        wide = unrolled(Loop(Operation("a"), Operation("b"), orders=tuple(("a", "b", delay, 1) for delay in range(5))), 4)
+        wide = unrolled(Loop(Operation("a"), Operation("b"), orders=tuple(("a", "b", delay, 1) for delay in range(5))),
+                        4)
         self.assertGreater(len(wide.orders), 8)
         self.assertEqual(write_loop(wide).count("\n"), 8 + len(wide.orders) - 1)
         self.assertIs(error_of(read_loop, write_loop(wide))[0], InvalidLoop)
@@ -146,11 +148,13 @@ class Form(unittest.TestCase):
             lines = text.split("\n")
             for at, line in enumerate(lines):
                 words = line.split(" ")
-                spoilt = [" " + line, line + " ", line + "\t", line + " x", line + ",", line.upper(), line.replace(" ", "  ", 1),
+                spoilt = [" " + line, line + " ", line + "\t", line + " x", line + ",", line.upper(),
+                          line.replace(" ", "  ", 1),
                           line.replace(" ", "\t", 1), words[0], " ".join(words[:2]), "x" + line, line + line,
                           line.replace(" ", ", ", 1)]
                 spoilt += [" ".join([*words[:place], word, *words[place + 1:]]) for place in range(1, len(words))
-                           for word in WRONG_WORDS if not (words[0] == "op" and word.endswith(",") and "," in words[place])]
+                           for word in WRONG_WORDS
+                           if not (words[0] == "op" and word.endswith(",") and "," in words[place])]
                 for wrong in spoilt:
                     if wrong in ("circuit 0", "circuit 1") or wrong == line:
                         continue
@@ -186,22 +190,27 @@ class Form(unittest.TestCase):
         self.assertEqual(line_of(read_tree, MEET, 2, "unit -"), 0)
 
     def test_words_as_names(self):
-        for text in ("op reads 1", "op uses 1 uses uses 0", "op op 1 reads op 1", "op reads 1 reads reads 1 uses reads 0",
+        for text in ("op reads 1", "op uses 1 uses uses 0", "op op 1 reads op 1",
+                     "op reads 1 reads reads 1 uses reads 0",
                      "op order 1 reads order 3, order 3, order 2 uses order 0, uses 0"):
             loop = read_loop(text)
             self.assertEqual(write_loop(loop), text)
         self.assertIs(error_of(read_loop, "op a 9 reads uses 7 uses reads 1")[0], InvalidOperation)
         self.assertEqual(read_loop("order order order 1 2\nop order 1").orders, (("order", "order", 1, 2),))
-        for text in ("op a 1 reads", "op a 1 uses", "op a 1 reads uses p 0", "op a 1 uses p 0 reads a 1", "op a 1 uses p",
-                     "op a 1 reads a 1 reads a 1", "op a 1 uses p 0 uses q 0", "op a 1 reads a 1,", "op a 1 reads a 1 , a 2",
+        for text in ("op a 1 reads", "op a 1 uses", "op a 1 reads uses p 0", "op a 1 uses p 0 reads a 1",
+                     "op a 1 uses p",
+                     "op a 1 reads a 1 reads a 1", "op a 1 uses p 0 uses q 0", "op a 1 reads a 1,",
+                     "op a 1 reads a 1 , a 2",
                      "op a 1 reads a 1 a 2", "op a 1 reads a 1,a 2", "op a 1, reads a 1", "op a 1 reads a, 1",
-                     "op a 1 reads a 1, uses p 0, reads", "op a 1 reads , a 1", "op a 1 uses p 0,, q 0", "op a 1 2", "op a",
+                     "op a 1 reads a 1, uses p 0, reads", "op a 1 reads , a 1", "op a 1 uses p 0,, q 0", "op a 1 2",
+                     "op a",
                      "op", "op 1 a", "op a 1 read a 1", "a 1", "op a 1\treads a 1"):
             self.assertEqual(line_of(read_loop, text), 0, text)
         self.assertIs(error_of(read_loop, "op a 1 reads a 1, uses 0")[0], InvalidLoop)
 
     def test_numbers(self):
-        self.assertEqual(read_spans("interval 1\nspan a -999999999999 -999999999998")["a"], (-10 ** 12 + 1, -10 ** 12 + 2))
+        self.assertEqual(read_spans("interval 1\nspan a -999999999999 -999999999998")["a"],
+                         (-10 ** 12 + 1, -10 ** 12 + 2))
         self.assertEqual(line_of(read_spans, "interval 1\nspan a 1000000000000 1000000000001"), 1)
         self.assertIs(error_of(read_spans, "interval 999999999999\nspan a 0 1")[0], InvalidNumber)
         self.assertEqual(line_of(read_spans, "interval 1000000000000\nspan a 0 1"), 0)
@@ -215,7 +224,8 @@ class Whole(unittest.TestCase):
                      "op a 1 uses p 0, p 0", "op a 1 reads a 1, a 1, a 1, a 1", "op a 1 reads b -1",
                      "op a 1 uses p 0, p 1, p 2, p 3, q 0", "op a 5\nop b 1 reads x 1"):
             self.assertIs(error_of(read_loop, text)[0], InvalidOperation, text)
-        for text in ("order a b 1 1", "op a 1 reads b 1", "op a 1 reads a 0", "op a 1\norder a b 1 1", "op a 1\norder a a 1 0",
+        for text in ("order a b 1 1", "op a 1 reads b 1", "op a 1 reads a 0", "op a 1\norder a b 1 1",
+                     "op a 1\norder a a 1 0",
                      "op a 1\norder a a 5 1", "op a 1\norder a a 1 4", "op a 1\norder a a -1 1",
                      "\n".join(f"op {name} 1" for name in "abcdefghi"),
                      "\n".join(["op a 1"] + [f"order a a {delay} {distance}" for delay in range(3)
@@ -240,7 +250,8 @@ class Whole(unittest.TestCase):
     def test_plans_that_there_are_not(self):
         kind, error = error_of(read_plan, MEET, "interval 33\nstart x 0")
         self.assertEqual((kind, error.value), (InvalidNumber, 33))
-        for text in ("interval 3", "interval 3\nstart u 0", "interval 3\nstart u 0\nstart x 0", "interval 3\nstart u 0\nstart v -1",
+        for text in ("interval 3", "interval 3\nstart u 0", "interval 3\nstart u 0\nstart x 0",
+                     "interval 3\nstart u 0\nstart v -1",
                      "interval 3\nstart u 0\nstart v 1000001", "interval 3\nstart u 0\nstart v 1\nstart w 1"):
             self.assertIs(error_of(read_plan, MEET, text)[0], InvalidArgument, text)
         self.assertEqual(read_plan(MEET, "interval 1\nstart u 0\nstart v 0"), (1, {"u": 0, "v": 0}))
@@ -249,7 +260,8 @@ class Whole(unittest.TestCase):
         for value in (0, 73, -1):
             kind, error = error_of(read_bases, TWO, f"registers {value}\nbase x 0")
             self.assertEqual((kind, error.value), (InvalidNumber, value))
-        for text in ("registers 3", "registers 3\nbase a 0", "registers 3\nbase a 0\nbase b 1", "registers 3\nbase a 0\nbase b 3",
+        for text in ("registers 3", "registers 3\nbase a 0", "registers 3\nbase a 0\nbase b 1",
+                     "registers 3\nbase a 0\nbase b 3",
                      "registers 3\nbase a 0\nbase b 2\nbase c 0", "registers 2\nbase a 0\nbase b 1"):
             self.assertIs(error_of(read_bases, TWO, text)[0], InvalidArgument, text)
 
@@ -277,7 +289,8 @@ class Trees(unittest.TestCase):
             self.assertEqual(line_of(read_tree, MEET, 2, text), wanted, text)
 
     def test_lines_that_tell_what_there_is_not(self):
-        for text in ("unit q 0", "unit p 2", "unit p -1", "circuit 0", "circuit 0 0", "circuit 0 2", "circuit -1 0", "split u 0",
+        for text in ("unit q 0", "unit p 2", "unit p -1", "circuit 0", "circuit 0 0", "circuit 0 2", "circuit -1 0",
+                     "split u 0",
                      "split u -1", "split x 1\nunit p 0", "split u 3\nunit p 0\nunit p 0\nunit p 0",
                      "split u 1\nsplit u 1\nunit p 0", "split u 1\nsplit v 1\nsplit u 1\nunit p 0",
                      "circuit " + " ".join(["0 1"] * 33), "\n".join(["split u 1"] * 90 + ["unit p 0"])):
@@ -298,7 +311,8 @@ class Trees(unittest.TestCase):
                       ("split", None, (leaf,)), ("split", "u"), ("Split", "u", (leaf,)), (leaf,), (), None, "unit p 0",
                       ("split", "u", (leaf, ("split", "v", (("split", "u", (leaf,)),)))), *all_kinds()]:
             self.assertIs(error_of(write_tree, MEET, 2, wrong)[0], InvalidArgument, wrong)
-        for right in [leaf, ("unit", "p", 1), ("circuit", (1, 0)), ("split", "v", (leaf, leaf)), ("split", "u", (leaf,)), TREE,
+        for right in [leaf, ("unit", "p", 1), ("circuit", (1, 0)), ("split", "v", (leaf, leaf)),
+                      ("split", "u", (leaf,)), TREE,
                       ("split", "u", (("split", "v", (leaf,)), ("split", "v", (leaf,))))]:
             self.assertIsNone(error_of(write_tree, MEET, 2, right)[0], right)
 
@@ -347,7 +361,8 @@ class Errors(unittest.TestCase):
                 signs = list(text)
                 for _ in range(draw.choice((1, 1, 2, 5))):
                     at = draw.randrange(len(signs))
-                    signs[at:at + draw.choice((0, 1))] = draw.choice(("", draw.choice(PRINTED), draw.choice("ab01 \n,-")))
+                    signs[at:at + draw.choice((0, 1))] = draw.choice(("", draw.choice(PRINTED),
+                                                                      draw.choice("ab01 \n,-")))
                 kind, told = error_of(read, "".join(signs))
                 self.assertIn(kind, (None, ParseError, InvalidOperation, InvalidLoop, InvalidMachine, InvalidSpans,
                                      InvalidArgument, InvalidNumber))

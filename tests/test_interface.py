@@ -60,14 +60,17 @@ CONSTANTS = {
 }
 # For each class its methods with their arguments, its properties, and its operators.
 CLASSES = {
-    ("loop.loops", "Operation"): ("renamed(names) with_ticks(ticks)", "name ticks reads uses read_names units", "eq str"),
+    ("loop.loops", "Operation"): ("renamed(names) with_ticks(ticks)", "name ticks reads uses read_names units",
+                                  "eq str"),
     ("loop.loops", "Loop"): ("of(operations,*,orders=()) rings() ring_sum(ring) renamed(names) played(rounds,meaning)",
                              "operations orders names arcs readings units asking", "getitem contains len iter eq str"),
     ("plan.machines", "Machine"): ("of(units) is_below(value)", "units", "getitem contains len iter eq str add"),
-    ("plan.plans", "Plan"): ("""duration(rounds) events(rounds) room(name) moved(name,by) shifted(by) earliest() grid()""",
+    ("plan.plans",
+     "Plan"): ("""duration(rounds) events(rounds) room(name) moved(name,by) shifted(by) earliest() grid()""",
                              "loop machine interval starts slots length", "and or eq str"),
     ("file.spans", "Spans"): ("""alive(tick,*names) across(moment,*names) is_full(moment,*names) most_of(*names)
-                              is_apart(*names) each_alive(tick)""", "interval rows names most peaks total pieces normal",
+                              is_apart(*names) each_alive(tick)""",
+                              "interval rows names most peaks total pieces normal",
                               "getitem contains len iter add or and eq str"),
     ("file.wirings", "Wiring"): ("after(name,turn) each_free(moment) exchanged(moment,one,other)",
                                  "spans follows registers cycles sizes copies", "getitem len eq str"),
@@ -125,7 +128,8 @@ class Interface(unittest.TestCase):
         module = import_module("overrounds.errors")
         for name, base in ERRORS.items():
             self.assertEqual(getattr(module, name).__bases__, (base,))
-        for name in ("InvalidOperation", "InvalidLoop", "InvalidMachine", "InvalidSpans", "InvalidWiring", "InvalidKernel",
+        for name in ("InvalidOperation", "InvalidLoop", "InvalidMachine", "InvalidSpans", "InvalidWiring",
+                     "InvalidKernel",
                      "InvalidArgument", "ParseError"):
             self.assertEqual(getattr(module, name).__bases__, (module.RoundError,))
 

@@ -33,7 +33,8 @@ class Made(unittest.TestCase):
     def test_properties(self):
         kernel = Kernel(SUM, 2, 2, ROWS)
         self.assertEqual((kernel.loop, kernel.interval, kernel.registers, kernel.rows), (SUM, 2, 2, ROWS))
-        self.assertEqual((kernel.starts, kernel.bases, kernel.stages), ({"item": 0, "sum": 1}, {"item": 0, "sum": 0}, 1))
+        self.assertEqual((kernel.starts, kernel.bases, kernel.stages),
+                         ({"item": 0, "sum": 1}, {"item": 0, "sum": 0}, 1))
         self.assertEqual(kernel, GOOD)
         for name in ("loop", "interval", "registers", "rows", "starts", "bases", "stages"):
             with self.assertRaises(AttributeError):
@@ -125,7 +126,8 @@ class Made(unittest.TestCase):
             self.assertIs(kind, InvalidNumber)
             self.assertIs(error.value, wrong)
         for wrong in (0, 73, -1, *NO_NUMBERS):
-            for call in (lambda: Kernel(SUM, 2, wrong, None), lambda: kernel_of(SUM, 2, {"item": 0, "sum": 0}, wrong, 0)):
+            for call in (lambda: Kernel(SUM, 2, wrong, None),
+                         lambda: kernel_of(SUM, 2, {"item": 0, "sum": 0}, wrong, 0)):
                 kind, error = error_of(call)
                 self.assertIs(kind, InvalidNumber, wrong)
                 self.assertIs(error.value, wrong)
@@ -151,14 +153,17 @@ class Of(unittest.TestCase):
                         self.assertEqual([(place + number) % registers for place in sources], wanted)
 
     def test_starts_and_bases_that_are_none_are_let(self):
-        self.assertEqual(kernel_of(SUM, 2, {"item": 5, "sum": 0}, 2, {"item": 0, "sum": 0}).starts, {"item": 5, "sum": 0})
-        self.assertEqual(kernel_of(SUM, 2, {"item": 0, "sum": 1}, 1, {"item": 0, "sum": 0}).bases, {"item": 0, "sum": 0})
+        self.assertEqual(kernel_of(SUM, 2, {"item": 5, "sum": 0}, 2, {"item": 0, "sum": 0}).starts,
+                         {"item": 5, "sum": 0})
+        self.assertEqual(kernel_of(SUM, 2, {"item": 0, "sum": 1}, 1, {"item": 0, "sum": 0}).bases,
+                         {"item": 0, "sum": 0})
 
     def test_wrong_starts_and_bases(self):
         for wrong in NO_STARTS + all_kinds():
             self.assertIs(error_of(kernel_of, SUM, 2, wrong, 0, None)[0], InvalidArgument, wrong)
         good = {"item": 0, "sum": 1}
-        for wrong in [{"item": 0}, {**good, "x": 0}, {"item": -1, "sum": 0}, {"item": 0, "sum": 2}, {"item": True, "sum": 0},
+        for wrong in [{"item": 0}, {**good, "x": 0}, {"item": -1, "sum": 0}, {"item": 0, "sum": 2},
+                      {"item": True, "sum": 0},
                       {"item": 0, "sum": None}, {"item": 0, "sum": "1"}, {"item": 0, 1: 1}, (0, 1), *all_kinds()]:
             self.assertIs(error_of(kernel_of, SUM, 2, good, 2, wrong)[0], InvalidArgument, wrong)
 
@@ -212,7 +217,8 @@ class Runs(unittest.TestCase):
             for passes in (0, 1, 3, 64 - kernel.stages):
                 late = kernel.later(passes)
                 self.assertEqual((late.stages, late.bases), (kernel.stages + passes, kernel.bases))
-                self.assertEqual((late.loop, late.interval, late.registers), (kernel.loop, kernel.interval, kernel.registers))
+                self.assertEqual((late.loop, late.interval, late.registers),
+                                 (kernel.loop, kernel.interval, kernel.registers))
                 self.assertEqual(late.starts, {name: tick + passes * kernel.interval
                                                for name, tick in kernel.starts.items()})
                 ticks = passes * kernel.interval

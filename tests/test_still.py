@@ -88,7 +88,8 @@ class Places(unittest.TestCase):
         self.assertIs(is_places(ONE, 2, 3, good), True)
         self.assertIs(is_places(ONE, 2, 3, {pair: good[pair] for pair in reversed(list(good))}), True)
         lacking = {pair: good[pair] for pair in list(good)[1:]}
-        for wrong in [lacking, {**good, ("c", 0): 0}, {**good, ("a", 2): 0}, {**good, ("a", 0): 1}, {**good, ("a", 0): 2},
+        for wrong in [lacking, {**good, ("c", 0): 0}, {**good, ("a", 2): 0}, {**good, ("a", 0): 1},
+                      {**good, ("a", 0): 2},
                       {**good, ("a", 0): -1}, {**good, ("a", 0): 3}, {**good, ("a", 0): False},
                       {**good, ("a", 0): None}, {**good, ("a", 0): "0"}, {**lacking, ("a", False): 0},
                       {**lacking, ("a", -1): 0}, {**lacking, "a": 0}, {**lacking, ("a",): 0}, {**lacking, None: 0},
@@ -146,8 +147,10 @@ class Papers(unittest.TestCase):
             self.assertIs(is_still_paper(FIVE, copies, registers, ("tree", TREE)), False)
         e, f = (("e", 0), (None, None)), (("d", 0), (None, (("e", 0), (None, None))))
         c = (("c", 0), (f, None))
-        for wrong in [None, (), (("a", 0),), (("a", 0), ()), (("a", 0), (None,)), (("a", 0), [c]), (("a", 0), (c, None)),
-                      (("a", 0), (c,)), (["a", 0], TREE[1]), (("a", False), TREE[1]), (("a", 1), TREE[1]), ("a", TREE[1]),
+        for wrong in [None, (), (("a", 0),), (("a", 0), ()), (("a", 0), (None,)), (("a", 0), [c]),
+                      (("a", 0), (c, None)),
+                      (("a", 0), (c,)), (["a", 0], TREE[1]), (("a", False), TREE[1]), (("a", 1), TREE[1]),
+                      ("a", TREE[1]),
                       (("f", 0), TREE[1]), (("a", 0), ((("b", 0), (None, None)),)), (("a", 0), ((("b", 0), (None,)),)),
                       (("a", 0), ((("b", 0), (c, c)),)), (("a", 0), ((("a", 0), (None, c)),)),
                       (("a", 0), ((("b", 0), (None, (("b", 0), (None, None)))),)), (("a", 0), ((("b", 0), (None, f)),)),

@@ -81,7 +81,8 @@ class Flows(unittest.TestCase):
                       ((1, False), (1, 1)), ((1,), (1, 1)), ((1, 0, 0), (1, 1)), ((1, 0), (1,)), ((1, 0), (1, 1, 0)),
                       ([1, 0], (1, 1)), ((1, 0), [1, 1]), [(1, 0), (1, 1)], ((1, 0), (1, 1), ()), ((1, 0),), (), None,
                       ((1, "0"), (1, 1)), ((1, None), (1, 1)), ((1, 10 ** 39), (1, 1)), ((0, 0), (1, 1)),
-                      ((2, 0), (1, 1)), ((1, 0), (0, 1)), ((1, 0), (2, 1)), ((1, 0), (0, 0)), {0: (1, 0), 1: (1, 1)}, SUM,
+                      ((2, 0), (1, 1)), ((1, 0), (0, 1)), ((1, 0), (2, 1)), ((1, 0), (0, 0)), {0: (1, 0), 1: (1, 1)},
+                      SUM,
                       *all_kinds()]:
             self.assertIs(is_flow(SUM, wrong), False, wrong)
             self.assertIs(error_of(line, SUM, wrong)[0], InvalidArgument, wrong)
@@ -152,7 +153,8 @@ class Sums(unittest.TestCase):
         for wrong in all_kinds() + [P]:
             if isinstance(wrong, Loop):
                 continue
-            for call in (lambda: sum_of(wrong, 0, {}), lambda: sum_paper(wrong, 0), lambda: is_sum_paper(wrong, 0, None),
+            for call in (lambda: sum_of(wrong, 0, {}), lambda: sum_paper(wrong, 0),
+                         lambda: is_sum_paper(wrong, 0, None),
                          lambda: least_sums(wrong), lambda: least_length(wrong, 0, "x"),
                          lambda: registers_bound(wrong, 0)):
                 self.assertIs(error_of(call)[0], InvalidLoop, wrong)
@@ -219,8 +221,10 @@ class Papers(unittest.TestCase):
         flow = ((0, 0, 1), (1, 1))
         for m, wanted in ((0, False), (1, True), (2, True), (3, True), (4, False)):
             self.assertIs(is_sum_paper(HALF, 1, ("sum", {**good, "m": m}, flow)), wanted)
-        for wrong in [("sum", {**good, "v": 5}, flow), ("sum", {**good, "v": 3}, flow), ("sum", {**good, "u": False}, flow),
-                      ("sum", {"u": 0, "m": 2}, flow), ("sum", good, ((1, 1, 0), (1, 1))), ("sum", good, ((0, 0, 1), (1, 0))),
+        for wrong in [("sum", {**good, "v": 5}, flow), ("sum", {**good, "v": 3}, flow),
+                      ("sum", {**good, "u": False}, flow),
+                      ("sum", {"u": 0, "m": 2}, flow), ("sum", good, ((1, 1, 0), (1, 1))),
+                      ("sum", good, ((0, 0, 1), (1, 0))),
                       ("sum", good, ((0, 0, True), (1, 1))), ("sum", good, [(0, 0, 1), (1, 1)]), ("sum", good),
                       ("sum", good, flow, 0), ["sum", good, flow], ("Sum", good, flow), (good, flow), ("ring", (0,)),
                       ("ring", ()), None, *all_kinds()]:
@@ -318,7 +322,8 @@ class NotTrue(unittest.TestCase):
     def test_the_bound_is_not_always_reached(self):
         # All three values are written in one tick.
         orders = tuple((one, other, 0, 0) for one, other in (("a", "b"), ("b", "c")))
-        loop = Loop(Operation("a"), Operation("b"), Operation("c"), Operation("d", reads=(("a", 0), ("b", 0), ("c", 0))),
+        loop = Loop(Operation("a"), Operation("b"), Operation("c"),
+                    Operation("d", reads=(("a", 0), ("b", 0), ("c", 0))),
                     orders=(*orders, ("d", "a", 3, 1)))
         self.assertEqual(error_of(registers_bound, loop, 3)[0], InvalidArgument)
         self.assertEqual(registers_bound(loop, 4), 1)

@@ -158,7 +158,8 @@ class Papers(unittest.TestCase):
     def test_values_near_right_ones(self):
         good = {"a": 0, "b": 2}
         self.assertIs(is_turning_paper(TWO, 3, ("bases", good)), True)
-        for wrong in [("bases", good, 0), ["bases", good], ("Bases", good), ("bases", {"a": 0, "b": 1}), good, ("bases",),
+        for wrong in [("bases", good, 0), ["bases", good], ("Bases", good), ("bases", {"a": 0, "b": 1}), good,
+                      ("bases",),
                       ("bases", (0, 2)), ("alive", 0), ("bases", {**good, "a": False}), None, *all_kinds()]:
             self.assertIs(is_turning_paper(TWO, 3, wrong), False, wrong)
         spans = Spans(3, {"a": (0, 2), "b": (1, 3)})

@@ -178,7 +178,8 @@ class Conventions(unittest.TestCase):
         self.assertEqual((told, [list(one) for one in told]), (before, [list(one) for one in before]))
         for one in told:
             one.clear()
-        self.assertEqual((kernel.starts, wiring.registers, desk.starts), ({"item": 0, "sum": 1}, 3, {"item": 0, "sum": 1}))
+        self.assertEqual((kernel.starts, wiring.registers, desk.starts),
+                         ({"item": 0, "sum": 1}, 3, {"item": 0, "sum": 1}))
 
     def test_returned_dicts_ascend_and_are_new(self):
         kernel = kernel_of(SUM, 2, {"sum": 1, "item": 0}, 2, {"sum": 0, "item": 0})
@@ -216,7 +217,8 @@ class Conventions(unittest.TestCase):
     def test_not_equal_is_the_opposite_of_equal(self):
         kernel = kernel_of(SUM, 2, {"item": 0, "sum": 1}, 2, {"item": 0, "sum": 0})
         again = Kernel(SUM, 2, 2, kernel.rows)
-        values = [kernel, again, Desk(MEET, P), Desk(MEET, P), TWO, Spans(2, TWO.rows), SUM, MEET, P, None, (), {}, "a", 1]
+        values = [kernel, again, Desk(MEET, P), Desk(MEET, P), TWO, Spans(2, TWO.rows), SUM, MEET, P, None, (), {},
+                  "a", 1]
         for one in values:
             for other in values:
                 self.assertIs(one != other, not one == other)

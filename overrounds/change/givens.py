@@ -40,7 +40,8 @@ def _plan_below(loop, machine, interval, ways, slots, left):
     if kind == "circuit":
         return None
     if not left:
-        return {name: heights[name] - heights[GROUND] for name in loop.names}
+        # They are the least heights that fit, and so the ground is at 0: it can be there.
+        return {name: heights[name] for name in loop.names}
     for slot in range(interval):
         starts = _plan_below(loop, machine, interval, ways, {**slots, left[0]: slot}, left[1:])
         if starts is not None:

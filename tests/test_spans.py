@@ -2,7 +2,7 @@
 
 import unittest
 from inspect import isgenerator
-from itertools import combinations
+from itertools import combinations, product
 from random import Random
 
 from overrounds.errors import InvalidArgument, InvalidLoop, InvalidNumber, InvalidSpans, TooMany, UnknownName
@@ -199,6 +199,33 @@ class Apart(unittest.TestCase):
                     self.assertIs(told, slow_apart(rows, interval, part))
                     self.assertIs(told, whole and 0 < many < len(rows))
         self.assertTrue({1, 2, 3} <= set(kinds))
+
+    def test_pieces_of_all_small_spans(self):
+        kinds = {}
+        for interval, most in ((1, 4), (2, 3), (3, 2)):
+            every = [(begin, begin + length) for begin in range(interval) for length in range(1, 2 * interval + 2)]
+            for many in range(1, most + 1):
+                for row in product(every, repeat=many):
+                    rows = dict(zip("abcd", row))
+                    pieces = slow_pieces(rows, interval)
+                    kinds[len(pieces)] = kinds.get(len(pieces), 0) + 1
+                    self.assertEqual(Spans(interval, rows).pieces, pieces, (interval, rows))
+        self.assertEqual(set(kinds), {1, 2})
+
+    def test_pieces_of_many_names(self):
+        draw = Random(8)
+        kinds = {}
+        for _ in range(60):
+            interval = draw.choice((2, 3, 4, 6))
+            rows = {}
+            for name in draw.sample("abcdefgh", draw.randint(4, 6)):
+                begin = draw.randint(-9, 9)
+                length = draw.choice((interval, 2 * interval, draw.randint(1, 8 * interval)))
+                rows[name] = (begin, begin + length)
+            pieces = slow_pieces(rows, interval)
+            kinds[len(pieces)] = kinds.get(len(pieces), 0) + 1
+            self.assertEqual(Spans(interval, rows).pieces, pieces, (interval, rows))
+        self.assertGreater(len(kinds), 3, kinds)
 
     def test_pieces(self):
         self.assertEqual(PARTED.pieces, (("a",), ("b", "c"), ("d",)))

@@ -3,7 +3,7 @@
 from overrounds.base.numbers import check_integer, check_interval, is_integer, is_name, times_alive
 from overrounds.errors import InvalidArgument, InvalidSpans, TooMany, UnknownName
 from overrounds.loop.loops import check_loop
-from overrounds.loop.rows import ascends, parts_of
+from overrounds.loop.rows import ascends
 from overrounds.plan.plans import check_starts, is_fitting
 
 MAX_VALUES = 8
@@ -26,6 +26,13 @@ def _are_rows(interval, value):
     return all([is_name(name) and _is_span(interval, value[name]) for name in value])
 
 
+def _merged(parts, names):
+    """The parts, of which those with some of the names are now one."""
+    chosen = [part for part in parts if any([name in part for name in names])]
+    others = [part for part in parts if part not in chosen]
+    return others + [tuple([name for part in chosen for name in part])]
+
+
 class Spans:
     """An interval and a span for each name. They never change."""
 
@@ -41,7 +48,6 @@ class Spans:
         # A value is across a moment if it is alive behind it and was so one tick before.
         self._crossing = {name: [times_alive(begin + 1, end, slot, interval) for slot in range(interval)]
                           for name, (begin, end) in self._rows.items()}
-        self._pieces = None
 
     @property
     def interval(self):
@@ -77,9 +83,14 @@ class Spans:
     @property
     def pieces(self):
         """The pieces as ascending tuples, ascending."""
-        if self._pieces is None:
-            self._pieces = self._found_pieces()
-        return self._pieces
+        peak = self.peaks[0]
+        parts = self._linked(peak)
+        for slot in range(self._interval):
+            # Registers of several parts that are free at one moment can go on as each other's would.
+            free = [part[0] for part in parts if self._has_free(part, peak, slot)]
+            if free:
+                parts = _merged(parts, free)
+        return tuple(sorted([tuple(sorted(part)) for part in parts]))
 
     @property
     def normal(self):
@@ -134,13 +145,20 @@ class Spans:
             return False
         return all([one or other for one, other in zip(self._full_slots(chosen), self._full_slots(others))])
 
-    def _found_pieces(self):
-        # If names are apart, all others are, too; so those without the first
-        # name are enough to tell all pieces.
-        apart = [part for part in parts_of(self._names[1:]) if self.is_apart(*part)]
-        sides = {name: [name in part for part in apart] for name in self._names}
-        return tuple(sorted({tuple([other for other in self._names if sides[other] == sides[name]])
-                             for name in self._names}))
+    def _linked(self, peak):
+        """The parts of the names whose values go round in common registers, none of which waits in a peak."""
+        # From the peak on, the values that begin take the registers in the order in which they become free.
+        first = peak + 1
+        ends = sorted([((end - first) % self._interval, name) for name, (_, end) in self._rows.items()])
+        begins = sorted([((begin - first) % self._interval, name) for name, (begin, _) in self._rows.items()])
+        parts = [(name,) for name in self._names]
+        for end, begin in zip(ends, begins):
+            parts = _merged(parts, (end[1], begin[1]))
+        return parts
+
+    def _has_free(self, names, peak, slot):
+        """Whether a register of these names, all of which hold values in the peak, is free at the moments of a slot."""
+        return sum([self._crossing[name][slot] - self._living[name][peak] for name in names]) < 0
 
     def each_alive(self, tick):
         """The values (name, turn) that are alive in a tick, ascending."""

@@ -18,6 +18,16 @@ def is_pin(loop, value):
     return value[0] == "registers" and is_between(value[1], 1, MAX_FILE)
 
 
+def _registers_for(loop, plan):
+    """The least number of registers for a plan in a file that turns; None without one or if a span is too long."""
+    if plan is None:
+        return None
+    rows = span_rows(loop, plan.interval, plan.starts)
+    if not are_short(plan.interval, rows):
+        return None
+    return least_turning(Spans(plan.interval, rows))
+
+
 class Board:
     """A loop, a machine, a plan for them or None, and pins. It never changes."""
 
@@ -27,8 +37,9 @@ class Board:
         self._plan = plan
         self._pins = pins
         self._names = loop.names
-        self._kept_least = None
-        self._kept_registers = None
+        # Both are worked out here, as a property that is read stores nothing.
+        self._least = least_interval(loop, machine)
+        self._registers = _registers_for(loop, plan)
 
     @property
     def loop(self):
@@ -49,24 +60,12 @@ class Board:
     @property
     def least(self):
         """The least interval."""
-        if self._kept_least is None:
-            self._kept_least = least_interval(self._loop, self._machine)
-        return self._kept_least
+        return self._least
 
     @property
     def registers(self):
         """The least number of registers for the plan in a file that turns, or None."""
-        if self._kept_registers is None:
-            self._kept_registers = self._found_registers()
-        return self._kept_registers
-
-    def _found_registers(self):
-        if self._plan is None:
-            return None
-        rows = span_rows(self._loop, self._plan.interval, self._plan.starts)
-        if not are_short(self._plan.interval, rows):
-            return None
-        return least_turning(Spans(self._plan.interval, rows))
+        return self._registers
 
     def has_pin(self, value):
         """Whether the value is a pin that is there."""

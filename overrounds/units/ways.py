@@ -62,7 +62,8 @@ class Ways:
 
     def _told_rows(self, slots):
         """The rows between operations with told slots, rounded up, and the arcs of each."""
-        rows, ways = [], []
+        rows = []
+        ways = []
         for source in slots:
             for target in slots:
                 if source != target and (source, target) in self._best:
